@@ -13,7 +13,8 @@ BUILTINS = {
     "tuple", "dict", "set", "isinstance", "ord", "repr", "any", "all", "divmod", "iter", "next", "super", "map",
 }
 BARRED = {"type", "typing", "enum", "Enum", "namedtuple", "abstractmethod", "dataclass", "register", "mro", "elements",
-          "open", "input", "law", "eval", "exec", "exit", "compile", "globals", "locals", "vars", "dir", "id", "credits"}
+          "open", "input", "law", "eval", "exec", "exit", "compile", "globals", "locals", "vars", "dir", "id",
+          "credits"}
 # Accounts have += and -=, beside which the language bars these signs in much else: the package does without.
 NODES = (ast.Global, ast.AsyncFunctionDef, ast.AugAssign, ast.Div, ast.MatMult, ast.Import)
 
