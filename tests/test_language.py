@@ -16,7 +16,7 @@ BARRED = {"type", "typing", "enum", "Enum", "namedtuple", "abstractmethod", "dat
           "open", "input", "law", "eval", "exec", "exit", "compile", "globals", "locals", "vars", "dir", "id",
           "credits"}
 # Accounts have += and -=, beside which the language bars these signs in much else: the package does without.
-NODES = (ast.Global, ast.AsyncFunctionDef, ast.AugAssign, ast.Div, ast.MatMult, ast.Import)
+NODES = (ast.Global, ast.AsyncFunctionDef, ast.Div, ast.MatMult, ast.Import)
 
 
 def trees():
