@@ -4,9 +4,16 @@ import unittest
 
 from sharedpipe.accounts import Account
 from sharedpipe.comparing import above, apart
+from sharedpipe.covers import cover, cover_sum
+from sharedpipe.fills import fill, filled, holds
+from sharedpipe.frames import read_frames
+from sharedpipe.fullness import stands_full, stopped
+from sharedpipe.machine import Machine
 from sharedpipe.plans import Plan
+from sharedpipe.reader import Reader
 from sharedpipe.repeating import repeated
 from sharedpipe.rules import at_least
+from sharedpipe.sender import Sender
 
 
 class Examples(unittest.TestCase):
@@ -28,3 +35,28 @@ class Examples(unittest.TestCase):
         plan = Plan((6, at_least(2), "read"), {"home": (5, soon, "read", None)}, {}, one)
         self.assertEqual([plan.over("a"), plan.under("pipe"), plan["home"][0], "b" in plan, "c" in plan],
                          [["a", "home", "pipe"], ["a", "b"], 5, True, False])
+        machine = Machine(plan)
+        machine.step(("pass", "b", 1, 1))
+        machine.step(("put", "a", 4, 1, False))
+        machine.step(("begin", "b", 3, False))
+        machine.step(("send", "b", 1, 1))
+        self.assertEqual([machine.left_of("pipe"), machine.withheld_of("pipe"), machine.lying("a"), machine.hand("b"),
+                          machine.sent()], [0, 1, [(4, False)], (3, 1, False), 6])
+        self.assertIs(stands_full(machine, "pipe", ["a"]), True)
+        self.assertEqual([stopped(machine, ["a"]), stopped(machine, []), machine.readable("a"), machine.back()],
+                         [["b"], [], 4, ("send", "b", 1, 1)])
+        sender, reader = Sender(plan), Reader(plan)
+        sender.write("a", "hello")
+        text = sender.frame("a", 9)
+        self.assertEqual([text, sender.frame("a", 9), read_frames(text + "b"), sender.unsent("a")],
+                         ["da,4,:hell;", "", ([("data", "a", "hell", False, False)], "b"), 1])
+        reader.take(text[:5])
+        reader.take(text[5:])
+        self.assertEqual([reader.read("a", 3), reader.backs(), reader.left_of("pipe"), reader.withheld_of("pipe")],
+                         [["hel"], "ba,3;bhome,3;bpipe,3;", 5, 0])
+        self.assertEqual([holds(plan, "pipe", ["a"]), filled(plan, "pipe", ["a"]), fill(plan, "pipe", ["a"])],
+                         [{"a": 4, "b": 2}, 6, {"a": 4, "b": 2}])
+        small = plan.with_pool("home", credit=3)
+        self.assertEqual([fill(small, "pipe", ["a"]), cover(small, "pipe", ["a"]),
+                          cover_sum(small, "pipe", ["a"], ((), ("a", "b")))],
+                         [{"a": 3, "b": 2}, (("home",), ("b",)), 6])
