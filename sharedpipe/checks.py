@@ -156,6 +156,10 @@ def is_narrow(pool):
 def is_narrow_stream(stream):
     """Return whether the own pool of a stream could be too small for ever."""
     credit, rule, most, _, _, _ = stream
+    return credit < least_own(rule, most)
+
+
+def least_own(rule, most):
+    """Return the least own credit of a stream with such a rule and such a most."""
     # Letters of a message that has not come as a whole cannot be read.
-    lying = most - 1 if most is not None else 0
-    return credit < rule.threshold + lying
+    return rule.threshold + (most - 1 if most is not None else 0)

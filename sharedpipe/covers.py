@@ -1,6 +1,6 @@
 """Covers: pools and streams that bound what the streams under a shared pool can hold together."""
 
-from sharedpipe.bounds import bounding, check_read, held, least_cover
+from sharedpipe.bounds import bounding, check_read, coverings, held, least_cover
 from sharedpipe.kinds import is_name
 
 
@@ -15,7 +15,7 @@ def cover_sum(plan, name, slow, cover):
 def cover(plan, name, slow):
     """Return a cover with the least sum."""
     check_read(plan, name, slow)
-    _, pools, streams = least_cover(bounding(plan, name), held(plan, name, slow))
+    _, pools, streams = least_cover(coverings(plan, name), held(plan, name, slow))
     return (pools, streams)
 
 

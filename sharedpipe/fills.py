@@ -1,6 +1,6 @@
 """Fills: how many letters the streams under a shared pool can hold together."""
 
-from sharedpipe.bounds import bounding, check_read, held, least_cover
+from sharedpipe.bounds import bounding, check_read, coverings, held, least_cover
 from sharedpipe.kinds import is_number
 
 
@@ -13,19 +13,19 @@ def holds(plan, name, slow):
 def filled(plan, name, slow):
     """Return the greatest sum of a fill, which is the least sum of a cover."""
     check_read(plan, name, slow)
-    return least_cover(bounding(plan, name), held(plan, name, slow))[0]
+    return least_cover(coverings(plan, name), held(plan, name, slow))[0]
 
 
 def fill(plan, name, slow):
     """Return a fill with the greatest sum, keys ascending."""
     check_read(plan, name, slow)
-    bounds = bounding(plan, name)
+    rows = coverings(plan, name)
     numbers = held(plan, name, slow)
-    greatest = least_cover(bounds, numbers)[0]
+    greatest = least_cover(rows, numbers)[0]
     # Each stream in its turn is lowered as far as the greatest sum stays. When this is done no
     # number can be less, and a fill with this sum, as none of it is greater, has them all.
     for stream in plan.under(name):
-        without = least_cover(bounds, with_number(numbers, stream, 0))[0]
+        without = least_cover(rows, with_number(numbers, stream, 0))[0]
         numbers = with_number(numbers, stream, greatest - without)
     return numbers
 

@@ -1,6 +1,6 @@
 """Which shared pools of a Machine stand full, and which streams are stopped by that."""
 
-from sharedpipe.slow import check_shared, check_slow
+from sharedpipe.slow import check_shared, check_slow, quick_under
 
 
 def stands_full(machine, name, slow):
@@ -15,17 +15,11 @@ def stopped(machine, slow):
     plan = machine.plan()
     check_slow(plan, slow)
     full = [name for name in plan.shared() if is_full(machine, name, slow)]
-    return [stream for stream in plan.streams() if stream not in slow and is_under(plan, stream, full)]
+    return quick_under(plan, full, slow)
 
 
 def is_full(machine, name, slow):
     """Return whether a shared pool has no credit left and nothing readable under it but at slow streams."""
     if machine.left_of(name) > 0:
         return False
-    quick = [stream for stream in machine.plan().under(name) if stream not in slow]
-    return all([machine.readable(stream) == 0 for stream in quick])
-
-
-def is_under(plan, stream, names):
-    """Return whether one of these pools is over a stream."""
-    return any([name in names for name in plan.over(stream)])
+    return all([machine.readable(stream) == 0 for stream in quick_under(machine.plan(), [name], slow)])

@@ -182,33 +182,40 @@ def some_rule(pick):
     return at_least(1) if pick.random() < 0.4 else rule_of(pick, pick.randint(1, 3), 3)
 
 
-def some_groups(pick, names, moments):
+def some_credit(pick, rule, moment, more):
+    """Return a credit of a shared pool, one below the threshold where that may be."""
+    if moment == "read" and pick.random() < 0.3:
+        return pick.randint(1, rule.threshold)
+    return rule.threshold + pick.randint(0, more)
+
+
+def some_groups(pick, names, moments, more=9):
     """Return a dict of groups, some of them in others."""
     groups = {}
     for name in names:
-        rule = some_rule(pick)
+        rule, moment = some_rule(pick), pick.choice(moments)
         around = pick.choice([None] + list(groups))
-        groups[name] = (rule.threshold + pick.randint(0, 9), rule, pick.choice(moments), around)
+        groups[name] = (some_credit(pick, rule, moment, more), rule, moment, around)
     return groups
 
 
-def some_plan(pick, moments=("come", "read"), streams=None):
-    """Return a Plan chosen by pick, a random.Random."""
-    houses = some_groups(pick, ["h" + sign for sign in "abc"[:pick.randint(0, 3)]], moments)
-    kinds = some_groups(pick, ["k" + sign for sign in "abc"[:pick.randint(0, 3)]], moments)
+def some_plan(pick, moments=("come", "read"), streams=None, small=False):
+    """Return a Plan chosen by pick, a random.Random; one with small credits, if it is to be small."""
+    houses = some_groups(pick, ["h" + sign for sign in "abc"[:pick.randint(0, 3)]], moments, 2 if small else 9)
+    kinds = some_groups(pick, ["k" + sign for sign in "abc"[:pick.randint(0, 3)]], moments, 2 if small else 9)
     rows = {}
     for name in "abcdef"[:streams or pick.randint(1, 6)]:
         rule = some_rule(pick)
-        most = pick.choice([None, None, pick.randint(1, 4)])
+        most = pick.choice([None, None, pick.randint(1, 2 if small else 4)])
         house, kind = pick.choice([None] + list(houses)), pick.choice([None] + list(kinds))
         guides = [other for other in rows if rows[other][5] is None]
         guide = pick.choice([None] + guides)
         if guide is not None:
             house, kind = rows[guide][3:5]
-        credit = rule.threshold + (most or 1) - 1 + pick.randint(0, 6)
+        credit = rule.threshold + (most or 1) - 1 + pick.randint(0, 1 if small else 6)
         rows[name] = (credit, rule, most, house, kind, guide)
-    rule = some_rule(pick)
-    return Plan((rule.threshold + pick.randint(0, 15), rule, pick.choice(moments)), houses, kinds, rows)
+    rule, moment = some_rule(pick), pick.choice(moments)
+    return Plan((some_credit(pick, rule, moment, 3 if small else 15), rule, moment), houses, kinds, rows)
 
 
 def some_run(pick, plan, many):

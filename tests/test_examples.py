@@ -6,14 +6,18 @@ from sharedpipe.accounts import Account
 from sharedpipe.comparing import above, apart
 from sharedpipe.covers import cover, cover_sum
 from sharedpipe.fills import fill, filled, holds
+from sharedpipe.formulas import bend, least_credit, raised, terms
 from sharedpipe.frames import read_frames
 from sharedpipe.fullness import stands_full, stopped
 from sharedpipe.machine import Machine
+from sharedpipe.papers import is_safe_paper, is_stop_run, safe_paper, stop_run
 from sharedpipe.plans import Plan
 from sharedpipe.reader import Reader
 from sharedpipe.repeating import repeated
 from sharedpipe.rules import at_least
 from sharedpipe.sender import Sender
+from sharedpipe.slowsets import borne, slow_sets
+from sharedpipe.stops import can_fill, can_stop, fewest_letters, stopping
 
 
 class Examples(unittest.TestCase):
@@ -60,3 +64,14 @@ class Examples(unittest.TestCase):
         self.assertEqual([fill(small, "pipe", ["a"]), cover(small, "pipe", ["a"]),
                           cover_sum(small, "pipe", ["a"], ((), ("a", "b")))],
                          [{"a": 3, "b": 2}, (("home",), ("b",)), 6])
+        self.assertEqual([stopping(plan, ["a"]), stopping(plan, ["b"]), fewest_letters(plan, "b", ["a"])], [["b"], [], 6])
+        self.assertEqual([can_fill(plan, name, ["a"]) for name in plan.shared()], [False, True])
+        self.assertTrue(is_stop_run(plan, "b", ["a"], stop_run(plan, "b", ["a"])))
+        wide = plan.with_pool("pipe", credit=8)
+        self.assertEqual([can_stop(wide, "b", ["a"]), safe_paper(wide, "b", ["a"]), stop_run(wide, "b", ["a"])],
+                         [False, {"pipe": ((), ("a", "b"))}, None])
+        self.assertTrue(is_safe_paper(wide, "b", ["a"], {"pipe": ((), ("a", "b"))}))
+        self.assertEqual([slow_sets(plan, "b"), slow_sets(plan, "a"), borne(plan)], [[("a",)], [], 0])
+        self.assertEqual([least_credit(plan, ["a"]), terms(plan, ["a"]), bend(plan, ["a"], "a"), bend(plan, ["a"], "b")],
+                         [8, [(4, ("a",)), (4, ("home",))], 5, 3])
+        self.assertEqual([raised(plan, ["a"])["pipe"][0], raised(plan, ["a"])["home"][0]], [8, 5])

@@ -15,6 +15,12 @@ FUNCTIONS = {
     "fills": ["holds(plan, name, slow)", "filled(plan, name, slow)", "fill(plan, name, slow)",
               "is_fill(plan, name, slow, thing)"],
     "covers": ["cover_sum(plan, name, slow, cover)", "cover(plan, name, slow)", "is_cover(plan, name, slow, thing)"],
+    "stops": ["can_fill(plan, name, slow)", "can_stop(plan, stream, slow)", "stopping(plan, slow)",
+              "fewest_letters(plan, stream, slow)"],
+    "papers": ["stop_run(plan, stream, slow)", "safe_paper(plan, stream, slow)",
+               "is_stop_run(plan, stream, slow, thing)", "is_safe_paper(plan, stream, slow, thing)"],
+    "slowsets": ["slow_sets(plan, stream)", "borne(plan)", "parted(plan, other)"],
+    "formulas": ["least_credit(plan, slow)", "terms(plan, slow)", "bend(plan, slow, stream)", "raised(plan, slow)"],
 }
 CLASSES = {
     ("rules", "Rule(tree)"): ["rest(amount)", "tree()", "__call__(amount)", "__or__(other)", "__and__(other)",
