@@ -64,12 +64,17 @@ def threshold_of(tree):
     return max(threshold_of(one), threshold_of(other))
 
 
-def starts_of(tree):
-    """Return the list of the amounts from which on the leaves of a tree count."""
+def leaves_of(tree):
+    """Return the list of the leaves of a tree."""
     word, one, other = tree
     if word == "at":
-        return [one]
-    return starts_of(one) + starts_of(other)
+        return [tree]
+    return leaves_of(one) + leaves_of(other)
+
+
+def starts_of(tree):
+    """Return the list of the amounts from which on the leaves of a tree count."""
+    return [least for _, least, _ in leaves_of(tree)]
 
 
 def telling(one, other):

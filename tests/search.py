@@ -31,6 +31,18 @@ class Search:
                     if len(self.letters) > most:
                         raise TooLarge()
 
+    def closure(self, starts, most=3000):
+        """Return the set of these moments and all to which they lead, whether a run leads to them or not."""
+        found, waiting = set(starts), list(starts)
+        while waiting:
+            for _, behind in self.moves(waiting.pop()):
+                if behind not in found:
+                    found.add(behind)
+                    waiting.append(behind)
+                    if len(found) > most:
+                        raise TooLarge()
+        return found
+
     def things(self, moment, stream):
         """Return the unread things of a stream in order, each (size, waits), without a message in hand."""
         line = moment[1][self.streams.index(stream)]

@@ -1,15 +1,18 @@
-"""The examples of the document, one session, as far as the program goes."""
+"""The examples of the document, one session."""
 
 import unittest
 
 from sharedpipe.accounts import Account
+from sharedpipe.book import Book
 from sharedpipe.comparing import above, apart
 from sharedpipe.covers import cover, cover_sum
+from sharedpipe.desk import Desk
 from sharedpipe.fills import fill, filled, holds
 from sharedpipe.formulas import bend, least_credit, raised, terms
 from sharedpipe.frames import read_frames
 from sharedpipe.fullness import stands_full, stopped
 from sharedpipe.machine import Machine
+from sharedpipe.notation import show_plan, show_rule
 from sharedpipe.papers import is_safe_paper, is_stop_run, safe_paper, stop_run
 from sharedpipe.plans import Plan
 from sharedpipe.reader import Reader
@@ -17,6 +20,7 @@ from sharedpipe.repeating import repeated
 from sharedpipe.rules import at_least
 from sharedpipe.sender import Sender
 from sharedpipe.slowsets import borne, slow_sets
+from sharedpipe.standings import Standings, is_closed
 from sharedpipe.stops import can_fill, can_stop, fewest_letters, stopping
 
 
@@ -75,3 +79,17 @@ class Examples(unittest.TestCase):
         self.assertEqual([least_credit(plan, ["a"]), terms(plan, ["a"]), bend(plan, ["a"], "a"), bend(plan, ["a"], "b")],
                          [8, [(4, ("a",)), (4, ("home",))], 5, 3])
         self.assertEqual([raised(plan, ["a"])["pipe"][0], raised(plan, ["a"])["home"][0]], [8, 5])
+        two = Plan((2, at_least(2), "read"), {}, {},
+                   {"a": (1, soon, None, None, None, None), "b": (1, soon, 1, None, None, None)})
+        table = Standings(two)
+        self.assertEqual([len(table), table.stopping([]), table.stopping(["a"]), is_closed(two, table.rows())],
+                         [7, [], ["b"], True])
+        self.assertEqual(table.full("pipe", ["a"]), [((0, 0, 1), (((1, False),), ((), ())))])
+        self.assertEqual([show_rule(late), show_plan(two).split("\n")[0]], ["(5/2&3)", "pipe 2 2 read"])
+        desk = Desk(plan)
+        self.assertEqual([desk.execute("stopping a"), desk.execute("pool pipe 8 - -"), desk.execute("stopping a"),
+                          desk.execute("least a")], ["b", "-", "-", "8"])
+        self.assertEqual([desk.execute("terms a"), desk.execute("back"),
+                          desk.execute("play a pass b 1 1, put a 1 4, begin b 3, send b 1 1")],
+                         ["4+a 4+home", "pool pipe 8 - -", "b"])
+        self.assertEqual(len(Book(plan)), 0)

@@ -20,6 +20,10 @@ FUNCTIONS = {
     "papers": ["stop_run(plan, stream, slow)", "safe_paper(plan, stream, slow)",
                "is_stop_run(plan, stream, slow, thing)", "is_safe_paper(plan, stream, slow, thing)"],
     "slowsets": ["slow_sets(plan, stream)", "borne(plan)", "parted(plan, other)"],
+    "standings": ["standing_of(machine)", "is_closed(plan, thing)"],
+    "notation": ["show_rule(rule)", "show_plan(plan)", "show_step(step)", "show_run(run)", "show_deed(deed)",
+                 "show_log(book)", "read_rule(text)", "read_plan(text)", "read_step(text)", "read_run(text)",
+                 "read_deed(text)", "read_log(plan, text)"],
     "formulas": ["least_credit(plan, slow)", "terms(plan, slow)", "bend(plan, slow, stream)", "raised(plan, slow)"],
 }
 CLASSES = {
@@ -42,6 +46,12 @@ CLASSES = {
     ("reader", "Reader(plan)"): [
         "take(text)", "read(stream, many)", "backs()", "left_of(name)", "unpassed_of(name)", "withheld_of(name)",
         "readable(stream)", "lying(stream)", "copied()"],
+    ("standings", "Standings(plan, *, most=1000)"): [
+        "rows()", "full(name, slow)", "stopping(slow)", "__len__()", "__contains__(row)"],
+    ("book", "Book(plan)"): [
+        "do(deed)", "back()", "again()", "plan()", "log()", "past(many)", "tried(deed)", "copied()", "tries(act)",
+        "__eq__(other)", "__len__()"],
+    ("desk", "Desk(plan)"): ["execute(line)"],
 }
 PROPERTIES = {("rules", "Rule"): ["threshold"], ("accounts", "Account"): ["credit", "left", "unpassed", "withheld", "rule"]}
 
