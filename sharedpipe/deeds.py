@@ -12,7 +12,7 @@ def is_deed(thing):
     if not isinstance(thing, tuple) or len(thing) < 2:
         return False
     word, name = thing[:2]
-    if not isinstance(word, str) or not is_name(name):
+    if not is_name(name):
         return False
     if word == "gone":
         return len(thing) == 2

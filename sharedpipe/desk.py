@@ -31,7 +31,7 @@ class Desk:
             return show_plan(self._book.plan())
         if line == "log":
             return show_log(self._book)
-        word, *rest = line.split(" ")
+        word, _, rest = line.partition(" ")
         if word in FORMS:
             answer = ANSWERS[word]
             plan = self._book.plan()
@@ -48,11 +48,10 @@ def deed_of(line):
         raise NoCommand() from None
 
 
-def asked(form, words):
-    """Return the list of the things that these words are, by their form; raise NoCommand."""
-    if form[-1] == "run" and len(words) > len(form):
-        # A run has blanks in it.
-        words = words[:len(form) - 1] + [" ".join(words[len(form) - 1:])]
+def asked(form, text):
+    """Return the list of the things of which a text tells, by their form; raise NoCommand."""
+    # What stands last has all further blanks in it, as a run has some.
+    words = text.split(" ", len(form) - 1)
     if len(words) != len(form):
         raise NoCommand()
     return [thing_of(kind, word) for kind, word in zip(form, words)]

@@ -22,7 +22,7 @@ def terms(plan, slow):
     # Where the credits of the pools that are not named are great and those of the others as
     # small as may be, a term is less than all others, or it never is.
     floors = [(floor_of(plan, row), row) for row in rows]
-    return sorted([row for floor, row in floors if not is_beaten(floor, row, floors)])
+    return [row for floor, row in floors if not is_beaten(floor, row, floors)]
 
 
 def bend(plan, slow, stream):
@@ -41,24 +41,16 @@ def bend(plan, slow, stream):
 def raised(plan, slow):
     """Return the Plan with the least greater credits of the shared pools with which no stream can be stopped."""
     check_slow(plan, slow)
-    waiting = [name for name in plan.shared() if is_read(plan, name) and len(quick_under(plan, [name], slow)) > 0]
-    # What a pool needs is more than the credit of each pool that bounds it. So the least of what
-    # the waiting pools need without each other is right, and the others may be bounded by it.
-    while len(waiting) > 0:
-        credit, name = min([(needed(plan, other, waiting, slow), other) for other in waiting])
-        plan = plan.with_pool(name, credit=credit)
-        waiting = [other for other in waiting if other != name]
+    needing = [name for name in plan.shared() if is_read(plan, name) and len(quick_under(plan, [name], slow)) > 0]
+    # Each of these gets more than the streams under it can hold, and so bounds none of the others.
+    for name in needing:
+        rows = [row for row in coverings(plan, name) if not any([other in needing for other in row[1]])]
+        plan = plan.with_pool(name, credit=max(plan[name][0], safe_credit(plan, name, rows, slow)))
     return plan
 
 
-def needed(plan, name, barred, slow):
-    """Return the least credit that a pool needs, none less than it has, if some pools do not bound it."""
-    rows = [row for row in coverings(plan, name) if not any([other in barred for other in row[1]])]
-    return max(plan[name][0], safe_credit(plan, name, rows, slow))
-
-
 def cover_terms(plan, slow):
-    """Return the list of tuples (constant, names), one for each set of pools that may cover the pipe."""
+    """Return the ascending list of the tuples (constant, names) of all sets of pools that may cover the pipe."""
     threshold = plan[PIPE][1].threshold
     if not is_read(plan, PIPE):
         return [(threshold, ())]

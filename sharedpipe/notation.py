@@ -84,10 +84,8 @@ def read_step(text):
     numbers = [kind for kind in FORMS[words[0]] if kind == "number"]
     truths = ()
     if len(numbers) < len(FORMS[words[0]]):
-        # A stream may have the name of the word that stands for waiting.
-        waits = len(words) == len(numbers) + 3 and words[-1] == WAIT
-        words = words[:-1] if waits else words
-        truths = (waits,)
+        truths = (words[-1] == WAIT,)
+        words = words[:-1] if truths[0] else words
     if len(words) != len(numbers) + 2:
         raise NoText()
     step = (words[0], read_word("name", words[1]))

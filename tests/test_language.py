@@ -1,6 +1,7 @@
 """Plain checks of the files of the package: names, sizes, signs, and what a file may contain."""
 
 import ast
+import builtins
 import pathlib
 import re
 import unittest
@@ -110,6 +111,48 @@ class Language(unittest.TestCase):
         for name, node in nodes(ast.Name):
             if isinstance(node.ctx, ast.Store):
                 self.assertNotIn(node.id, BUILTINS, name)
+
+    def test_names_of_imports_and_classes_mean_nothing_else(self):
+        for path, tree in trees():
+            taken = {part.name for node in tree.body if isinstance(node, ast.ImportFrom) for part in node.names}
+            taken |= {node.name for node in tree.body if isinstance(node, ast.ClassDef)}
+            for node in ast.walk(tree):
+                if isinstance(node, ast.arg):
+                    self.assertNotIn(node.arg, taken, path)
+                if isinstance(node, ast.Name) and isinstance(node.ctx, ast.Store):
+                    self.assertNotIn(node.id, taken | set(dir(builtins)), path)
+            bound = [node.name for node in tree.body if isinstance(node, (ast.FunctionDef, ast.ClassDef))]
+            bound += [part.name for node in tree.body if isinstance(node, ast.ImportFrom) for part in node.names]
+            self.assertEqual(len(bound), len(set(bound)), path)
+
+    def test_all_that_is_imported_is_used(self):
+        for path, tree in trees():
+            for node in tree.body:
+                if isinstance(node, ast.ImportFrom):
+                    used = {other.id for other in ast.walk(tree) if isinstance(other, ast.Name)}
+                    self.assertEqual([part.name for part in node.names if part.name not in used], [], path)
+
+    def test_imports_name_the_file_that_defines_the_name(self):
+        defined = {path.stem: {node.name for node in tree.body if isinstance(node, (ast.FunctionDef, ast.ClassDef))}
+                   | {target.id for node in tree.body if isinstance(node, ast.Assign) for target in node.targets}
+                   for path, tree in trees()}
+        for name, node in nodes(ast.ImportFrom):
+            if node.module not in LIBRARY:
+                for part in node.names:
+                    self.assertIn(part.name, defined[node.module.split(".")[1]], name)
+
+    def test_methods(self):
+        known = set("append clear copy count endswith extend find get index insert items join keys partition pop replace split startswith "
+                    "strip values".split())
+        methods = {node.name for _, node in nodes(ast.FunctionDef)}
+        for name, node in nodes(ast.Call):
+            if isinstance(node.func, ast.Attribute):
+                self.assertIn(node.func.attr, known | methods, (name, node.lineno))
+
+    def test_no_assignment_adds_in_place(self):
+        # Where a class has += of its own, the language lets few other ones stand.
+        for name, node in nodes(ast.AugAssign):
+            self.assertEqual((name, ast.unparse(node)), ("pools.py", "account -= many"))
 
     def test_words(self):
         for path in FILES:

@@ -140,7 +140,7 @@ class Plans(Texts):
     def test_what_is_no_plan(self):
         lines = PLAN.split("\n")
         bad = ["", "\n", " ", "pipe", "pipe 30 5", "pipe 30 5 read ", " pipe 30 5 read", "pipe 30  5 read", "pipe - 5 read", "pipe 30 - read",
-               "pipe 30 5 -", "pipe 0 5 read", "pipe 030 5 read", "pipe 30 5 now", "pipe 30 5 read -", "house 30 5 read", "Pipe 30 5 read",
+               "pipe 30 5 -", "pipe 0 5 read", "pipe 030 5 read", "pipe 30 5 now", "pipe read 5 read", "pipe pipe 5 read", "pipe 30 5 30", "pipe 30 read read", "pipe 30 5 read -", "house 30 5 read", "Pipe 30 5 read",
                PLAN + "\n", "\n" + PLAN, PLAN + "\n\n", PLAN.replace("\n", "\n\n", 1), PLAN.replace("\n", " "), PLAN.replace(" ", "  "),
                PLAN.replace("-", "None"), PLAN + "\npipe 30 5 read", PLAN.replace("30", "1" * 40), "\n".join(lines[1:]),
                PLAN + "\ngone a", PLAN + "\npool a - - -", "pipe 30 5 read\npool a 3 1 read\nstream a 5 2 - - - -"]
@@ -206,7 +206,7 @@ class Steps(Texts):
         bad = ["", "begin", "begin a", "begin a wait", "begin a 0", "begin a 05", "begin a -1", "begin a 5 wait wait", "begin a 5 Wait", "begin a 5 w",
                "begin  a 5", " begin a 5", "begin a 5 ", "begin a 5\n", "begin A 5", "begin abcdefghi 5", "begin - 5", "begin a 5 False", "begin a 5 6",
                "send a 1", "send a 1 4 wait", "send a 1 4 5", "put a 1", "put a 1 wait", "put a 1 2 3", "put a 1 2 3 wait", "read a 1", "read a 1 2 wait",
-               "fetch a", "fetch a 1 2", "fetch a wait", "fetch a 1 wait", "pass a 1", "pass a 1 2 wait", "Pass a 1 2", "pas a 1 2", "pass a 1,2", "pass a one 2",
+               "fetch a", "fetch a 1 2", "fetch a wait", "fetch a 1 wait", "pass a 1", "pass a 1 2 wait", "Pass a 1 2", "pas a 1 2", "pass a 1,2", "pass a one 2", "pass a read 2", "fetch a read", "put a b 1",
                "put a 1 " + "1" * 40, "put a " + "9" * 40 + " 1", "begin a 5, begin a 5", "-", "pass wait", "begin wait", "put wait 1", "put wait 1 wait"]
         for text in bad + things():
             raised(self, NoText, read_step, text)
@@ -266,9 +266,9 @@ class Deeds(Texts):
     def test_what_is_no_deed(self):
         bad = ["", "gone", "gone a b", "gone -", "gone A", "gone  a", "gone a ", " gone a", "gone a\n", "gone a\ngone b", "Gone a", "pool a", "pool a - -",
                "pool a - - - -", "pool - - - -", "pool a 0 - -", "pool a 01 - -", "pool a - 0 -", "pool a - - -1", "pool a - - now", "pool a - 1/1 -",
-               "pool a None - -", "pool a - (1) -", "pool a " + "1" * 40 + " - -", "house x 5 2/3 come", "house x - 2/3 come -", "house x 5 - come -",
+               "pool a None - -", "pool a read - -", "pool a b - -", "pool a - read -", "pool a - - b", "pool a - - 3", "pool a - (1) -", "pool a " + "1" * 40 + " - -", "house x 5 2/3 come", "house x - 2/3 come -", "house x 5 - come -",
                "house x 5 2/3 - -", "house x 5 2/3 come - -", "house - 5 2/3 come -", "house x 5 2/3 come Y", "kind x 5 2/3 come", "kind x 0 1 come -",
-               "stream a 4 1 - - -", "stream a 4 1 - - - - -", "stream a - 1 - - - -", "stream a 4 - - - - -", "stream a 4 1 0 - - -",
+               "stream a 4 1 - - -", "stream a 4 1 - - - - -", "stream a - 1 - - - -", "stream a read 1 - - - -", "stream a 4 1 read - - -", "stream a 4 1 b - - -", "house b 5 2/3 b -", "stream a 4 - - - - -", "stream a 4 1 0 - - -",
                "stream a 4 1 - - - 3", "stream a 4 1 - h,k - -", "stream 4 1 - - - -", "pipe 30 5 read", "back", "-"]
         for text in bad + things():
             raised(self, NoText, read_deed, text)

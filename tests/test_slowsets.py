@@ -43,6 +43,8 @@ class SlowSets(unittest.TestCase):
     def test_the_least_ones(self):
         self.assertEqual(slow_sets(four(5), "d"), [("a",), ("b", "c")])
         self.assertEqual(slow_sets(four(6), "d"), [("a", "b"), ("a", "c")])
+        # Ascending, whichever has more streams.
+        self.assertEqual(slow_sets(four(6).with_pool("c", credit=7), "d"), [("a", "b"), ("c",)])
         self.assertEqual(slow_sets(four(8), "d"), [("a", "b")])
         self.assertEqual(slow_sets(four(9), "d"), [("a", "b", "c")])
         self.assertEqual(slow_sets(four(10), "d"), [("a", "b", "c")])

@@ -111,13 +111,23 @@ class Tables(unittest.TestCase):
         plan = Plan((9, at_least(3, 2), "come"), {}, {}, {"a": (9, SOON, None, None, None, None)})
         self.assertEqual(Standings(plan).rows(), sorted(set(self.every(plan))))
 
+    def test_many_letters_that_change_what_comes_of_fewer(self):
+        # Fewer letters leave the same in both pools, more than eleven together need not.
+        one, other = at_least(2, 2), at_least(2, 2) | at_least(12, 3)
+        for moment in ("read", "come"):
+            streams = {"a": (14, SOON, None, "home", None, None)}
+            plan = Plan((16, other, moment), {"home": (16, one, moment, None)}, {}, streams)
+            found = Standings(plan).rows()
+            self.assertEqual(found, sorted(self.every(plan)))
+            self.assertEqual(sorted({row[0][1:] for row in found}), [(0, 0), (0, 1), (1, 0), (1, 1)])
+
     def every(self, plan):
         """Return the standings of all moments of a plain search through a Machine's steps."""
         start = Machine(plan)
         found, waiting = {standing_of(start)}, [start]
         while waiting:
             machine = waiting.pop()
-            steps = [("put", "a", size, 1, False) for size in range(1, 10)] + [("read", "a", size, 1) for size in range(1, 10)]
+            steps = [("put", "a", size, 1, False) for size in range(1, 17)] + [("read", "a", size, 1) for size in range(1, 17)]
             for step in steps:
                 other = machine.copied()
                 if does(other, step) and standing_of(other) not in found:
@@ -306,18 +316,35 @@ class Closed(unittest.TestCase):
             self.assertIs(is_closed(two(), rows + [thing]), False)
 
     def test_what_is_not_allowed(self):
-        plan = guiding()
+        plan = guiding().with_pool("a", credit=5).with_pool("g", credit=5)
+        strange = [((1, 0, 0), ((), ())), ((0, 0, 1), ((), ())), ((0, 0, 0), ((), ((1, True),))),
+                   ((0, 0, 0), (((4, True),), ())), ((0, 0, 0), (((2, True),), ((2, False),))),
+                   ((0, 0, 0), (((1, True), (1, True)), ())), ((0, 0, 0), ((), ((1, False), (1, False)))),
+                   ((0, 0, 0), (((1, True),), ((1, True),)))]
+        self.check_strange(plan, strange)
+        for row in (((0, 0, 0), (((0, True),), ())), ((0, 0, -1), ((), ())), ((0, 0, 0), (((-1, True),), ()))):
+            self.assertIs(is_closed(plan, Standings(plan).rows() + [row]), False, row)
+        plan = guiding(2).with_pool("a", credit=5).with_pool("g", credit=5)
+        strange = [((0, 0, 0), lines) for lines in (
+            ((((3, False),), ()), ((), ())), ((((1, False), (3, False)), ()), ((), ())), (((), (2, False)), ((), ())),
+            (((), (3, True)), ((), ())), (((), ()), ((), (1, True))), (((), ()), (((1, True),), ())),
+            (((), (1, True)), (((1, False), (1, True)), ())), ((((2, True), (2, True)), ()), ((), ())))]
+        self.check_strange(plan, strange)
         rows = Standings(plan).rows()
-        for row in (((1, 0, 0), ((), ())), ((0, 0, 1), ((), ())), ((0, 0, 0), ((), ((1, True),))),
-                    ((0, 0, 0), (((3, True),), ())), ((0, 0, 0), (((2, True),), ((2, False),))),
-                    ((0, 0, 0), (((1, True), (1, True)), ())), ((0, 0, 0), (((0, True),), ())), ((0, 0, -1), ((), ()))):
-            self.assertIs(is_closed(plan, rows + [row]), False, row)
-        plan = guiding(2)
-        rows = Standings(plan).rows()
-        for lines in (((((3, False),), ()), ((), ())), (((), (2, False)), ((), ())), (((), (0, False)), ((), ())),
-                      (((), (1,)), ((), ())), (((), ()), ((), (1, True))), (((), ()), (((1, True),), ())),
-                      (((), None), ((), ())), (((), ()), ()), (((), (), ()), ((), ())), (((), ((1, False),)), ((), ()))):
+        for lines in ((((), (0, False)), ((), ())), (((), (1,)), ((), ())), (((), None), ((), ())), (((), ()), ()),
+                      (((), (), ()), ((), ())), (((), ((1, False),)), ((), ())), (((), []), ((), ())), (([], ()), ((), ()))):
             self.assertIs(is_closed(plan, rows + [((0, 0, 0), lines)]), False, lines)
+        # What a pool withholds: less than its threshold, and not more than its credit.
+        plan = Plan((3, at_least(4), "read"), {}, {}, {"a": (9, at_least(3), None, None, None, None)})
+        self.check_strange(plan, [((3, 0), ((),)), ((0, 4), ((),)), ((1, 2), (((2, False),),))])
+        self.assertIs(is_closed(plan, self.closed(plan, Standings(plan).rows() + [((2, 3), ((),)), ((1, 2), (((1, False),),))])), True)
+
+    def check_strange(self, plan, strange):
+        """Check that no list with one of these is closed, though it has all to which they lead."""
+        rows = Standings(plan).rows()
+        for row in strange:
+            self.assertNotIn(row, rows)
+            self.assertIs(is_closed(plan, self.closed(plan, rows + [row])), False, row)
 
     def test_a_list_of_another_plan(self):
         rows = Standings(two()).rows()
@@ -341,14 +368,32 @@ class Closed(unittest.TestCase):
             except TooLarge:
                 continue
             pick.shuffle(grown)
-            self.assertIs(is_closed(plan, grown), True)
             closed += len(grown) > len(rows)
-            for row in pick.sample(grown, min(4, len(grown))):
-                rest = [other for other in grown if other != row]
-                # It may be left out only if none of the others leads to it, and it is not the first.
-                due = row not in search.closure(rest) and search.letters.get(row) != 0
-                self.assertIs(is_closed(plan, rest), due)
+            self.check_each(search, grown, 12)
         self.assertGreater(closed, 10)
+
+    def check_each(self, search, rows, many=None):
+        """Check that a list is closed, and is so without one of the first rows just if no other leads to it."""
+        self.assertIs(is_closed(search.plan, rows), True)
+        needed = {min(search.letters)}
+        for row in rows:
+            needed |= {behind for _, behind in search.moves(row) if behind != row}
+        for row in rows[:many]:
+            rest = [other for other in rows if other != row]
+            self.assertIs(is_closed(search.plan, rest), row not in needed, row)
+
+    def test_what_is_released(self):
+        # Two pools over both withhold the same; where they do not, no run leads, but what is released does.
+        for whole in (None, 2):
+            streams = {"a": (3, SOON, whole, "home", "sort", "g"), "g": (2, SOON, whole, "home", "sort", None)}
+            pool = (3, at_least(2), "read", None)
+            plan = Plan((9, SOON, "read"), {"home": pool}, {"sort": pool}, streams)
+            search = Search(plan)
+            line = ((1, True),) if whole is None else (((1, True),), (1, True))
+            other = () if whole is None else ((), ())
+            rows = list(search.closure([min(search.letters), ((0, 0, 1, 0, 0), (line, other))]))
+            self.assertGreater(len(rows), len(search.letters))
+            self.check_each(search, rows)
 
     def allowed(self, pick, plan, row):
         """Return a standing like another one in which pools withhold what may be, or None."""
