@@ -31,7 +31,8 @@ def great():
     third = 10 ** 38
     streams = {"a": (third, SOON, None, "in", "left", None), "b": (third + 1, at_least(9, 4), 7, "in", "right", None),
                "c": (third + 2, SOON, None, "mid", "left", "d"), "d": (third + 3, SOON, third, "mid", "left", None),
-               "e": (third + 4, at_least(third), None, "out", "right", None), "f": (third, SOON, third, None, "all", None)}
+               "e": (third + 4, at_least(third), None, "out", "right", None),
+               "f": (third, SOON, third, None, "all", None)}
     houses = {"in": (third, SOON, "read", "mid"), "mid": (2 * third, at_least(5), "read", "out"),
               "out": (3 * third, at_least(third), "read", None)}
     kinds = {"left": (third // 2, at_least(3), "read", "all"), "right": (third + 9, SOON, "read", "all"),

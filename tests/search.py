@@ -10,10 +10,14 @@ class TooLarge(Exception):
 
 
 class Search:
-    """All standings to which runs of a plan lead, each with the fewest letters that must be sent to be there."""
+    """All standings to which runs of a plan lead, each with the fewest letters that must be sent to be there.
 
-    def __init__(self, plan, most=3000):
+    What barred(moment, word, waits, ends) holds of is left out: frames, what they release, and readings.
+    """
+
+    def __init__(self, plan, most=3000, barred=lambda moment, word, waits, ends: False):
         self.plan = plan
+        self.barred = barred
         self.names = sorted(plan.shared() + plan.streams())
         self.streams = plan.streams()
         start = (tuple([0] * len(self.names)), tuple([() if plan.most(s) is None else ((), ()) for s in self.streams]))
@@ -99,6 +103,8 @@ class Search:
                 continue
             sent = size + (hand[0] if hand else 0)
             for ends in (False, True):
+                if self.barred(moment, "frame", waits, ends):
+                    continue
                 if most is None:
                     line = self.rows(self.things(moment, stream) + [(1, waits)] * size)
                 elif sent > most or (sent == most and not ends):
@@ -106,7 +112,8 @@ class Search:
                 else:
                     messages = moment[1][self.streams.index(stream)][0]
                     line = (messages + ((sent, waits),), ()) if ends else (messages, (sent, waits))
-                found.append((withheld, self.with_line(moment, stream, line, ends)))
+                releases = ends and not self.barred(moment, "release", waits, ends)
+                found.append((withheld, self.with_line(moment, stream, line, releases)))
         return found
 
     def readings(self, moment, stream):
@@ -115,6 +122,8 @@ class Search:
         whole = self.plan.most(stream) is not None
         for many in range(1, self.readable(moment, stream) + 1):
             if whole and many > 1:
+                break
+            if self.barred(moment, "reading", False, False):
                 break
             amount = sum([size for size, _ in things[:many]])
             rest = things[many:]

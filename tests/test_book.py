@@ -6,8 +6,8 @@ import unittest
 from given import SOON, example, mixed, other_names, renamed
 from plain import some_plan, some_rule
 from sharedpipe.book import Book
-from sharedpipe.errors import (BadGuide, Full, Narrow, NoDeed, NoEntry, Nothing, PipeError, Refused, Ring, Twice, Unknown,
-                               Wrong)
+from sharedpipe.errors import (BadGuide, Full, Narrow, NoDeed, NoEntry, Nothing, PipeError, Refused, Ring, Twice,
+                               Unknown, Wrong)
 from sharedpipe.plans import Plan
 from sharedpipe.rules import at_least
 from sharedpipe.stops import stopping
@@ -69,7 +69,8 @@ def some_deed(pick, plan):
     if word == "stream":
         house, kind = pick.choice([None] + plan.houses()), pick.choice([None] + plan.kinds())
         guide = pick.choice([None, None] + plan.streams())
-        return (word, pick.choice(plan.streams() + ["new"]), (credit + 2, rule, pick.choice([None, 1, 3]), house, kind, guide))
+        return (word, pick.choice(plan.streams() + ["new"]), (credit + 2, rule, pick.choice([None, 1, 3]), house, kind,
+                                                              guide))
     groups = plan.houses() if word == "house" else plan.kinds()
     return (word, pick.choice(groups + ["new"]), (credit, rule, moment, pick.choice([None] + groups)))
 
@@ -105,7 +106,8 @@ class Deeds(unittest.TestCase):
     def test_streams_and_groups_become_what_is_told(self):
         book = Book(example())
         book.do(("stream", "a", (9, at_least(2), 3, None, None, "b")))
-        self.assertEqual([book.plan().most("a"), book.plan().guide("a"), book.plan().over("a")], [3, "b", ["a", "pipe"]])
+        self.assertEqual([book.plan().most("a"), book.plan().guide("a"), book.plan().over("a")],
+                         [3, "b", ["a", "pipe"]])
         book.do(("house", "home", (3, SOON, "come", None)))
         self.assertEqual(book.plan()["home"], (3, SOON, "come"))
         book.do(("gone", "home"))
@@ -173,15 +175,21 @@ class Errors(unittest.TestCase):
         return [plain, undone, full]
 
     def test_what_is_no_deed(self):
-        bad = [("gone",), ("gone", "a", None), ("gone", "A"), ("gone", ""), ("gone", None), ("gone", "abcdefghi"), ("went", "a"),
-               ["gone", "a"], ("pool", "a"), ("pool", "pipe", 3), ("pool", "pipe", 3, None), ("pool", "pipe", 3, None, None, None),
+        bad = [("gone",), ("gone", "a", None), ("gone", "A"), ("gone", ""), ("gone", None), ("gone", "abcdefghi"),
+               ("went", "a"),
+               ["gone", "a"], ("pool", "a"), ("pool", "pipe", 3), ("pool", "pipe", 3, None),
+               ("pool", "pipe", 3, None, None, None),
                ("pool", "pipe", 0, None, None), ("pool", "pipe", True, None, None), ("pool", "pipe", "3", None, None),
-               ("pool", "pipe", -1, None, None), ("pool", "pipe", None, 3, None), ("pool", "pipe", None, ("at", 1, 1), None),
+               ("pool", "pipe", -1, None, None), ("pool", "pipe", None, 3, None),
+               ("pool", "pipe", None, ("at", 1, 1), None),
                ("pool", "pipe", None, None, "now"), ("pool", "pipe", None, None, True), ("pool", 1, None, None, None),
                ("house", "a"), ("house", "x", GROUP, None), ("house", "x", list(GROUP)), ("house", "x", GROUP[:3]),
-               ("house", "x", STREAM), ("house", "x", None), ("kind", "x", (0,) + GROUP[1:]), ("kind", "x", (5, None, "read", None)),
-               ("kind", "x", (5, SOON, None, None)), ("kind", "x", (5, SOON, "read", "")), ("kind", "x", (5, SOON, "read", 1)),
-               ("kind", "X", GROUP), ("stream", "x", GROUP), ("stream", "x", STREAM[:5]), ("stream", "x", (True,) + STREAM[1:]),
+               ("house", "x", STREAM), ("house", "x", None), ("kind", "x", (0,) + GROUP[1:]),
+               ("kind", "x", (5, None, "read", None)),
+               ("kind", "x", (5, SOON, None, None)), ("kind", "x", (5, SOON, "read", "")),
+               ("kind", "x", (5, SOON, "read", 1)),
+               ("kind", "X", GROUP), ("stream", "x", GROUP), ("stream", "x", STREAM[:5]),
+               ("stream", "x", (True,) + STREAM[1:]),
                ("stream", "x", (5, SOON, 0, None, None, None)), ("stream", "x", (5, SOON, True, None, None, None)),
                ("stream", "x", (5, SOON, None, "", None, None)), ("stream", "x", (5, SOON, None, None, 3, None)),
                ("stream", "x", (5, SOON, None, None, None, False)), ("stream", "x", (5, 1, None, None, None, None)),
@@ -211,7 +219,8 @@ class Errors(unittest.TestCase):
 
     def test_deeds_that_are_refused(self):
         for deed in [("gone", "z"), ("gone", "pipe"), ("pool", "z", None, None, None), ("pool", "z", 3, None, "come"),
-                     ("pool", "a", None, None, "read"), ("pool", "b", 1, None, "come"), ("pool", "a", None, at_least(99), "read")]:
+                     ("pool", "a", None, None, "read"), ("pool", "b", 1, None, "come"),
+                     ("pool", "a", None, at_least(99), "read")]:
             for book in self.books()[:2]:
                 self.assertIs(self.refused(book, deed, Refused).deed, deed)
 
@@ -226,7 +235,8 @@ class Errors(unittest.TestCase):
                  (("stream", "b", (5, SOON, None, None, None, "b")), BadGuide, "b"),
                  (("stream", "b", (5, SOON, None, None, None, "a")), BadGuide, "b"),
                  (("pool", "a", None, at_least(5), None), Narrow, "a"), (("pool", "b", 2, None, None), Narrow, "b"),
-                 (("pool", "pipe", 1, None, "come"), Narrow, "pipe"), (("pool", "home", None, at_least(6), "come"), Narrow, "home"),
+                 (("pool", "pipe", 1, None, "come"), Narrow, "pipe"),
+                 (("pool", "home", None, at_least(6), "come"), Narrow, "home"),
                  (("stream", "c", (1, at_least(2), None, None, None, None)), Narrow, "c")]
         for deed, error, name in cases:
             for book in self.books()[:2]:
@@ -471,6 +481,7 @@ class Books(unittest.TestCase):
         book = Book(mixed(40, 40, 40))
         self.assertEqual(raised(self, Unknown, book.do, ("gone", "f")).name, "f")
         self.assertEqual(raised(self, Unknown, book.do, ("gone", "room")).name, "room")
-        self.assertEqual(raised(self, BadGuide, book.do, ("stream", "f", (8, at_least(4), 3, None, None, None))).name, "e")
+        self.assertEqual(raised(self, BadGuide, book.do, ("stream", "f", (8, at_least(4), 3, None, None, None))).name,
+                         "e")
         self.assertEqual(book.do(("house", "home", (4, at_least(3), "read", None))), ["c", "d", "e", "f"])
         self.assertEqual(book.log(), [("house", "home", (4, at_least(3), "read", None))])

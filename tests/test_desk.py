@@ -7,8 +7,8 @@ from given import SOON, example, great, mixed, other_names, renamed
 from plain import some_plan, some_run, some_slow
 from sharedpipe.book import Book
 from sharedpipe.desk import Desk
-from sharedpipe.errors import (BadGuide, BadSlow, Full, IsSlow, Narrow, NoCommand, Nothing, PipeError, Refused, Ring, Twice,
-                               Unknown, Wrong)
+from sharedpipe.errors import (BadGuide, BadSlow, Full, IsSlow, Narrow, NoCommand, Nothing, PipeError, Refused, Ring,
+                               Twice, Unknown, Wrong)
 from sharedpipe.formulas import bend, least_credit, terms
 from sharedpipe.fullness import stopped
 from sharedpipe.notation import read_run, show_deed, show_log, show_plan, show_run
@@ -22,8 +22,8 @@ from test_book import some_deed
 from values import raised, things
 
 PLAY = "play a pass b 1 1, put a 1 4, begin b 3, send b 1 1"
-LINES = ["pool pipe 8 - -", "gone b", "house x 5 2/3 come -", "stream c 4 1 - - - -", "back", "again", "plan", "log", "stopping a", "run b a",
-         "slow b", "least a", "terms a", "bend a a", PLAY]
+LINES = ["pool pipe 8 - -", "gone b", "house x 5 2/3 come -", "stream c 4 1 - - - -", "back", "again", "plan", "log",
+         "stopping a", "run b a", "slow b", "least a", "terms a", "bend a a", PLAY]
 
 
 def state(desk):
@@ -51,16 +51,19 @@ class Answers(unittest.TestCase):
 
     def test_the_example(self):
         desk = Desk(example())
-        self.assertEqual(self.ask(desk, ["stopping a", "pool pipe 8 - -", "stopping a", "least a"]), ["b", "-", "-", "8"])
+        self.assertEqual(self.ask(desk, ["stopping a", "pool pipe 8 - -", "stopping a", "least a"]),
+                         ["b", "-", "-", "8"])
         self.assertEqual(self.ask(desk, ["terms a", "back", PLAY]), ["4+a 4+home", "pool pipe 8 - -", "b"])
 
     def test_deeds_and_what_they_answer(self):
         desk = Desk(example())
-        self.assertEqual(self.ask(desk, ["pool pipe 3 - -", "stream c 5 1 - - - -", "pool pipe 30 - -", "gone b", "pool home 1 2 -"]),
+        self.assertEqual(self.ask(desk, ["pool pipe 3 - -", "stream c 5 1 - - - -", "pool pipe 30 - -", "gone b",
+                                         "pool home 1 2 -"]),
                          ["a,b", "c", "-", "-", "a"])
         self.assertEqual(self.ask(desk, ["back", "back", "again"]), ["pool home 1 2 -", "gone b", "gone b"])
         self.assertEqual(desk.execute("log"), "pool pipe 3 - -\nstream c 5 1 - - - -\npool pipe 30 - -\ngone b")
-        self.assertEqual(desk.execute("plan"), "pipe 30 2 read\nhouse home 5 1 read -\nstream a 4 1 - home - -\nstream c 5 1 - - - -")
+        self.assertEqual(desk.execute("plan").split("\n"), ["pipe 30 2 read", "house home 5 1 read -",
+                                                            "stream a 4 1 - home - -", "stream c 5 1 - - - -"])
         self.assertEqual(desk.execute("kind k 4 1 come -"), "-")
         raised(self, Nothing, desk.execute, "again")
 
@@ -78,7 +81,8 @@ class Answers(unittest.TestCase):
         desk.execute("pool pipe 99 - -")
         self.assertEqual(desk.execute("slow b"), "none")
         desk = Desk(example())
-        self.assertEqual(self.ask(desk, ["slow b", "slow a", "run a b", "bend b b", "bend b a", "bend a a", "least -", "terms -"]),
+        self.assertEqual(self.ask(desk, ["slow b", "slow a", "run a b", "bend b b", "bend b a", "bend a a", "least -",
+                                         "terms -"]),
                          ["a", "none", "safe", "-", "3", "5", "4", "4"])
         self.assertTrue(is_stop_run(example(), "b", ["a"], read_run(desk.execute("run b a"))))
         streams = {"a": (5, SOON, None, "home", None, None), "b": (3, SOON, None, "home", None, None),
@@ -89,16 +93,19 @@ class Answers(unittest.TestCase):
     def test_play(self):
         desk = Desk(example())
         run = PLAY[len("play a "):]
-        self.assertEqual(self.ask(desk, ["play a " + run, "play - " + run, "play b " + run, "play a -", "play a pass b 1 1", "play - put a 4 1"]),
+        self.assertEqual(self.ask(desk, ["play a " + run, "play - " + run, "play b " + run, "play a -",
+                                         "play a pass b 1 1", "play - put a 4 1"]),
                          ["b", "-", "-", "-", "-", "-"])
         # What is no run of the Plan is told whatever the slow set is.
         for slow in ("a", "-", "z", "a,a", "a,b"):
-            self.assertEqual(self.ask(desk, [f"play {slow} put a 5 1", f"play {slow} fetch a 1", f"play {slow} put c 1 1",
+            self.assertEqual(self.ask(desk, [f"play {slow} put a 5 1", f"play {slow} fetch a 1",
+                                             f"play {slow} put c 1 1",
                                              f"play {slow} {run}, send b 1 1"]), ["no"] * 4)
         for slow in ("z", "a,a", "a,b", "home"):
             raised(self, BadSlow, desk.execute, f"play {slow} {run}")
             raised(self, BadSlow, desk.execute, f"play {slow} -")
-        full = Desk(Plan((3, at_least(4), "read"), {}, {}, {"a": (9, SOON, None, None, None, None), "b": (9, SOON, None, None, None, None)}))
+        full = Desk(Plan((3, at_least(4), "read"), {}, {}, {"a": (9, SOON, None, None, None, None),
+                                                            "b": (9, SOON, None, None, None, None)}))
         self.assertEqual(full.execute("play - pass a 1 3"), "a,b")
 
     def test_against_the_functions(self):
@@ -124,7 +131,8 @@ class Answers(unittest.TestCase):
                     answer = desk.execute(f"run {stream} {some}")
                     self.assertEqual(answer == "safe", run is None)
                     if run is not None:
-                        self.assertEqual(desk.execute(f"play {some} {answer}"), listed(stopped(played(plan, read_run(answer)), slow)))
+                        self.assertEqual(desk.execute(f"play {some} {answer}"),
+                                         listed(stopped(played(plan, read_run(answer)), slow)))
                 run = some_run(pick, plan, 8)
                 self.assertEqual(desk.execute(f"play {some} {show_run(run)}"), listed(stopped(played(plan, run), slow)))
                 broken = run + [("fetch", stream, 99)]
@@ -196,14 +204,19 @@ class Errors(unittest.TestCase):
         return told
 
     def test_what_is_no_command(self):
-        bad = ["", " ", "\n", "stop a", "stopping", "stopping ", "stopping a b", "stopping  a", "stopping a ", " stopping a", "stopping a, b", "stopping a,",
-               "stopping ,a", "stopping a,,b", "stopping A", "stopping -,a", "stopping --", "stopping abcdefghi", "stopping a\n", "Stopping a", "stopping a;b",
-               "run", "run b", "run b a a", "run a,b c", "run - a", "run B a", "run  b a", "run b  a", "slow", "slow -", "slow a b", "slow a,b", "slow a ",
-               "least", "least a a", "least a ", "least 3", "terms", "terms a b", "terms A", "bend", "bend a", "bend a b c", "bend a,b a", "bend 3 a", "bend - a",
-               "play", "play a", "play a ", "play a  pass b 1 1", "play a pass b 1", "play pass b 1 1", "play a pass b 1 1,", "play a pass b 1 1,put a 1 4",
-               "play a - -", "play a pass b 0 1", "play A pass b 1 1", "play A put a 5 1", "play a no", "back ", "back a", "again again", "plan plan", " plan",
-               "log\n", "log log", "do", "gone", "gone a b", "gone b\ngone a", "pool pipe 8 -", "pool pipe 8 - - ", "pool pipe 0 - -", "pool pipe 08 - -",
-               "pool pipe 8 5/1 -", "stream c 4 1 - - -", "house x 5 2/3 come", "pipe 3 1 read", "('gone', 'a')", "BACK", "quit", "pool pipe " + "1" * 40 + " - -"]
+        bad = ["", " ", "\n", "stop a", "stopping", "stopping ", "stopping a b", "stopping  a", "stopping a ",
+               " stopping a", "stopping a, b", "stopping a,", "stopping ,a", "stopping a,,b", "stopping A",
+               "stopping -,a", "stopping --", "stopping abcdefghi", "stopping a\n", "Stopping a", "stopping a;b",
+               "run", "run b", "run b a a", "run a,b c", "run - a", "run B a", "run  b a", "run b  a", "slow",
+               "slow -", "slow a b", "slow a,b", "slow a ", "least", "least a a", "least a ", "least 3", "terms",
+               "terms a b", "terms A", "bend", "bend a", "bend a b c", "bend a,b a", "bend 3 a", "bend - a",
+               "play", "play a", "play a ", "play a  pass b 1 1", "play a pass b 1", "play pass b 1 1",
+               "play a pass b 1 1,", "play a pass b 1 1,put a 1 4", "play a - -", "play a pass b 0 1",
+               "play A pass b 1 1", "play A put a 5 1", "play a no", "back ",
+               "back a", "again again", "plan plan", " plan", "log\n", "log log", "do", "gone", "gone a b",
+               "gone b\ngone a", "pool pipe 8 -", "pool pipe 8 - - ", "pool pipe 0 - -", "pool pipe 08 - -",
+               "pool pipe 8 5/1 -", "stream c 4 1 - - -", "house x 5 2/3 come", "pipe 3 1 read", "('gone', 'a')",
+               "BACK", "quit", "pool pipe " + "1" * 40 + " - -"]
         for line in bad + things() + [("gone", "a"), ["back"], 7]:
             self.check(line, NoCommand)
 
@@ -211,7 +224,8 @@ class Errors(unittest.TestCase):
         for line in LINES:
             words = line.split(" ")
             for at in range(len(words)):
-                for other in (words[:at] + words[at + 1:], words[:at] + [words[at]] + words[at:], words[:at] + [""] + words[at:], words + [""]):
+                for other in (words[:at] + words[at + 1:], words[:at] + [words[at]] + words[at:],
+                              words[:at] + [""] + words[at:], words + [""]):
                     text = " ".join(other)
                     if text in ("play pass b 1 1, put a 1 4, begin b 3, send b 1 1", "stream c 4 1 - - -"):
                         self.check(text, NoCommand)
@@ -220,13 +234,20 @@ class Errors(unittest.TestCase):
                             self.check(text, NoCommand)
 
     def test_what_the_functions_raise(self):
-        cases = [("run z a", Unknown, ["z"]), ("run home z", Unknown, ["home"]), ("run b z", BadSlow, []), ("run a a", IsSlow, ["a"]),
-                 ("run a a,b", BadSlow, []), ("stopping z", BadSlow, []), ("stopping a,a", BadSlow, []), ("stopping a,b", BadSlow, []),
-                 ("least pipe", BadSlow, []), ("terms a,b", BadSlow, []), ("slow pipe", Unknown, ["pipe"]), ("slow z", Unknown, ["z"]),
-                 ("bend z a", Unknown, ["z"]), ("bend home z", Unknown, ["home"]), ("bend a z", BadSlow, []), ("bend a b,b", BadSlow, []),
-                 ("play z -", BadSlow, []), ("gone pipe", Refused, [("gone", "pipe")]), ("gone z", Refused, [("gone", "z")]),
-                 ("pool z 3 - -", Refused, [("pool", "z", 3, None, None)]), ("pool a - - read", Refused, [("pool", "a", None, None, "read")]),
-                 ("stream pipe 4 1 - - - -", Twice, ["pipe"]), ("gone home", Unknown, ["home"]), ("house home 5 1 read home", Ring, ["home"]),
+        cases = [("run z a", Unknown, ["z"]), ("run home z", Unknown, ["home"]), ("run b z", BadSlow, []),
+                 ("run a a", IsSlow, ["a"]),
+                 ("run a a,b", BadSlow, []), ("stopping z", BadSlow, []), ("stopping a,a", BadSlow, []),
+                 ("stopping a,b", BadSlow, []),
+                 ("least pipe", BadSlow, []), ("terms a,b", BadSlow, []), ("slow pipe", Unknown, ["pipe"]),
+                 ("slow z", Unknown, ["z"]),
+                 ("bend z a", Unknown, ["z"]), ("bend home z", Unknown, ["home"]), ("bend a z", BadSlow, []),
+                 ("bend a b,b", BadSlow, []),
+                 ("play z -", BadSlow, []), ("gone pipe", Refused, [("gone", "pipe")]),
+                 ("gone z", Refused, [("gone", "z")]),
+                 ("pool z 3 - -", Refused, [("pool", "z", 3, None, None)]),
+                 ("pool a - - read", Refused, [("pool", "a", None, None, "read")]),
+                 ("stream pipe 4 1 - - - -", Twice, ["pipe"]), ("gone home", Unknown, ["home"]),
+                 ("house home 5 1 read home", Ring, ["home"]),
                  ("stream a 4 1 - home - a", BadGuide, ["a"]), ("pool a - 5 -", Narrow, ["a"])]
         for line, error, told in cases:
             self.assertEqual(self.check(line, error), told)
@@ -241,4 +262,5 @@ class Errors(unittest.TestCase):
         for line in ("gone b", "gone z", "pool a - - read"):
             self.assertEqual(raised(self, Full, desk.execute, line).limit, 60)
         raised(self, NoCommand, desk.execute, "gone")
-        self.assertEqual([len(desk.execute("log").split("\n")), desk.execute("back"), desk.execute("gone b")], [60, "pool pipe 79 - -", "-"])
+        self.assertEqual([len(desk.execute("log").split("\n")), desk.execute("back"), desk.execute("gone b")],
+                         [60, "pool pipe 79 - -", "-"])

@@ -68,7 +68,8 @@ class Examples(unittest.TestCase):
         self.assertEqual([fill(small, "pipe", ["a"]), cover(small, "pipe", ["a"]),
                           cover_sum(small, "pipe", ["a"], ((), ("a", "b")))],
                          [{"a": 3, "b": 2}, (("home",), ("b",)), 6])
-        self.assertEqual([stopping(plan, ["a"]), stopping(plan, ["b"]), fewest_letters(plan, "b", ["a"])], [["b"], [], 6])
+        self.assertEqual([stopping(plan, ["a"]), stopping(plan, ["b"]), fewest_letters(plan, "b", ["a"])],
+                         [["b"], [], 6])
         self.assertEqual([can_fill(plan, name, ["a"]) for name in plan.shared()], [False, True])
         self.assertTrue(is_stop_run(plan, "b", ["a"], stop_run(plan, "b", ["a"])))
         wide = plan.with_pool("pipe", credit=8)
@@ -76,7 +77,8 @@ class Examples(unittest.TestCase):
                          [False, {"pipe": ((), ("a", "b"))}, None])
         self.assertTrue(is_safe_paper(wide, "b", ["a"], {"pipe": ((), ("a", "b"))}))
         self.assertEqual([slow_sets(plan, "b"), slow_sets(plan, "a"), borne(plan)], [[("a",)], [], 0])
-        self.assertEqual([least_credit(plan, ["a"]), terms(plan, ["a"]), bend(plan, ["a"], "a"), bend(plan, ["a"], "b")],
+        self.assertEqual([least_credit(plan, ["a"]), terms(plan, ["a"]), bend(plan, ["a"], "a"),
+                          bend(plan, ["a"], "b")],
                          [8, [(4, ("a",)), (4, ("home",))], 5, 3])
         self.assertEqual([raised(plan, ["a"])["pipe"][0], raised(plan, ["a"])["home"][0]], [8, 5])
         two = Plan((2, at_least(2), "read"), {}, {},

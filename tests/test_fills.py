@@ -73,7 +73,8 @@ class Holding(unittest.TestCase):
         self.assertEqual(list(holds(plan, "pipe", ["e", "c"])), list("abcdef"))
 
     def test_a_stream_read_whole_with_a_guide(self):
-        streams = {"a": (9, SOON, 3, None, None, "g"), "g": (9, SOON, 4, None, None, None), "h": (9, SOON, 1, None, None, None)}
+        streams = {"a": (9, SOON, 3, None, None, "g"), "g": (9, SOON, 4, None, None, None),
+                   "h": (9, SOON, 1, None, None, None)}
         plan = Plan((30, SOON, "read"), {}, {}, streams)
         self.assertEqual(holds(plan, "pipe", []), {"a": 9, "g": 3, "h": 0})
         self.assertEqual(cover(plan, "pipe", []), ((), ("a", "g")))
@@ -123,8 +124,10 @@ class Filling(unittest.TestCase):
         third = LONG // 3
         streams = {name: (third, SOON, None, house, kind, None) for name, house, kind in (
             ("a", "x", "u"), ("b", "x", "v"), ("c", "y", "u"), ("d", "y", "v"), ("e", "y", None), ("f", "z", "w"))}
-        houses = {"x": (third + 7, SOON, "read", "y"), "y": (2 * third, SOON, "read", None), "z": (third - 1, SOON, "read", None)}
-        kinds = {"u": (third + 1, SOON, "read", None), "v": (5, SOON, "read", "w"), "w": (third // 2, SOON, "read", None)}
+        houses = {"x": (third + 7, SOON, "read", "y"), "y": (2 * third, SOON, "read", None),
+                  "z": (third - 1, SOON, "read", None)}
+        kinds = {"u": (third + 1, SOON, "read", None), "v": (5, SOON, "read", "w"),
+                 "w": (third // 2, SOON, "read", None)}
         plan = Plan((LONG, SOON, "read"), houses, kinds, streams)
         slow = list("abcdf")
         self.assertEqual(filled(plan, "pipe", slow), third + 1 + third // 2)
@@ -162,7 +165,8 @@ class Filling(unittest.TestCase):
         pick = random.Random(61)
         for _ in range(60):
             plan = some_plan(pick, streams=pick.randint(1, 3))
-            names = [names for many in range(4) for names in itertools.combinations(plan.shared() + plan.streams(), many)]
+            names = [names for many in range(4) for names in itertools.combinations(plan.shared() + plan.streams(),
+                many)]
             for name in reads(plan)[:2]:
                 slow = some_slow(pick, plan)
                 covers = all_covers(plan, name, slow)
@@ -180,9 +184,11 @@ class Things(unittest.TestCase):
         self.assertIs(is_fill(plan, "pipe", slow, good), True)
         self.assertIs(is_fill(plan, "pipe", slow, dict(reversed(list(good.items())))), True)
         self.assertIs(is_fill(plan, "pipe", slow, {name: 0 for name in good}), True)
-        bad = [{**good, "a": 2}, {**good, "c": 3}, {**good, "d": 3}, {**good, "e": 3}, {**good, "f": 1}, {**good, "z": 0},
+        bad = [{**good, "a": 2}, {**good, "c": 3}, {**good, "d": 3}, {**good, "e": 3}, {**good, "f": 1},
+               {**good, "z": 0},
                {**good, "home": 0}, {**good, "e": -1}, {**good, "e": True}, {**good, "e": False}, {**good, "e": None},
-               {**good, "e": "1"}, {**good, "e": [1]}, {**good, 0: 0}, list(good.items()), list(good), tuple(good.values())]
+               {**good, "e": "1"}, {**good, "e": [1]}, {**good, 0: 0}, list(good.items()), list(good),
+               tuple(good.values())]
         bad += [{name: many for name, many in good.items() if name != gone} for gone in good]
         bad += [{**{name: many for name, many in good.items() if name != gone}, "z": 0} for gone in good]
         for thing in bad + things():
@@ -201,10 +207,12 @@ class Things(unittest.TestCase):
         bad = [(("home",), ("d", "e")), (("home", "sort"), ("d",)), ((), ()), (("home", "home"), ("c", "d", "e")),
                (("home",), ("c", "c", "d", "e")), (("sort", "home"), ("d", "e")), (("home", "sort"), ("e", "d")),
                (["home", "sort"], ("d", "e")), (("home", "sort"), ["d", "e"]), [("home", "sort"), ("d", "e")],
-               (("home", "pipe"), ("c", "d", "e")), (("a", "home"), ("c", "d", "e")), (("home",), ("c", "d", "e", "home")),
+               (("home", "pipe"), ("c", "d", "e")), (("a", "home"), ("c", "d", "e")),
+               (("home",), ("c", "d", "e", "home")),
                (("home", "sort"), ("d", "e"), ()), (("home", "sort"),), (("home", "z"), ("c", "d", "e")),
                (("home", "sort"), ("d", "e", "z")), ((None,), ("d", "e")), (("home", "sort"), ("d", "e", 1)),
-               (("home", ["sort"]), ("d", "e")), ("home", ("c", "d", "e")), (("home",), "cde"), ({"home": 1}, ("c", "d", "e"))]
+               (("home", ["sort"]), ("d", "e")), ("home", ("c", "d", "e")), (("home",), "cde"),
+               ({"home": 1}, ("c", "d", "e"))]
         for thing in bad + things():
             self.assertIs(is_cover(plan, "pipe", slow, thing), False)
         # The pipe is another pool for a group; the group is none for itself, nor is one with the moment "come".

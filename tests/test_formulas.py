@@ -132,14 +132,16 @@ class Terms(unittest.TestCase):
 
     def test_what_a_house_can_never_bound(self):
         # The house may have no less than 1: what a whole stream holds is bounded by it from most 3 on.
-        for most, due in ((1, [(1, ())]), (2, [(2, ())]), (3, [(1, ("home",)), (3, ())]), (4, [(1, ("home",)), (4, ())])):
+        for most, due in ((1, [(1, ())]), (2, [(2, ())]), (3, [(1, ("home",)), (3, ())]),
+                          (4, [(1, ("home",)), (4, ())])):
             streams = {"a": (9, SOON, most, "home", None, None)}
             plan = Plan((6, SOON, "read"), {"home": (5, SOON, "read", None)}, {}, streams)
             self.assertEqual(terms(plan, []), due)
 
     def test_what_own_credits_can_never_be(self):
         # A slow stream has no less than its threshold and most - 1 together.
-        for rule, most, due in ((SOON, None, [(1, ("a",)), (1, ("home",))]), (at_least(7), 3, [(1, ("a",)), (1, ("home",))])):
+        for rule, most, due in ((SOON, None, [(1, ("a",)), (1, ("home",))]),
+                                (at_least(7), 3, [(1, ("a",)), (1, ("home",))])):
             streams = {"a": (9, rule, most, "home", None, None), "b": (9, SOON, 4, "home", None, None)}
             plan = Plan((6, SOON, "read"), {"home": (5, SOON, "read", None)}, {}, streams)
             self.assertEqual(terms(plan, ["a"]), [(1, ("home",)), (4, ("a",))])
@@ -197,7 +199,8 @@ class Terms(unittest.TestCase):
 
 class Bend(unittest.TestCase):
     def test_the_example(self):
-        self.assertEqual([bend(example(), ["a"], "a"), bend(example(), ["a"], "b"), bend(example(), [], "a")], [5, 3, 1])
+        self.assertEqual([bend(example(), ["a"], "a"), bend(example(), ["a"], "b"), bend(example(), [], "a")],
+                         [5, 3, 1])
         self.assertEqual([bend(example(), ["b"], "a"), bend(example(), ["b"], "b")], [1, None])
 
     def test_where_it_lies(self):
@@ -252,7 +255,8 @@ class Raised(unittest.TestCase):
         # What a holds is great: home and sort are raised until neither bounds the other any more.
         for holding in (4, 7, 40):
             streams = {"a": (holding, SOON, None, "home", "sort", None), "b": (4, SOON, None, "home", "sort", None)}
-            plan = Plan((1, at_least(2), "read"), {"home": (2, SOON, "read", None)}, {"sort": (2, at_least(3), "read", None)}, streams)
+            plan = Plan((1, at_least(2), "read"), {"home": (2, SOON, "read", None)},
+                        {"sort": (2, at_least(3), "read", None)}, streams)
             found = raised(plan, ["a"])
             self.assertEqual(found, naively_raised(plan, ["a"]))
             self.assertEqual(stopping(found, ["a"]), [])

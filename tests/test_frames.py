@@ -138,17 +138,23 @@ class Frames(unittest.TestCase):
         self.assertGreater(kept, 2000)
 
     def test_beginnings_of_each_part(self):
-        for text in ("d", "b", "da", "dabcdefgh", "babcdefgh", "da,", "ba,", "da,2", "da,200", "da,20", "da,1,", "da,1,w",
+        for text in ("d", "b", "da", "dabcdefgh", "babcdefgh", "da,", "ba,", "da,2", "da,200", "da,20", "da,1,",
+                     "da,1,w",
                      "da,1,e", "da,1,we", "da,1,:", "da,2,:x", "da,2,:xy", "da,2,we:;;", "ba,1", "ba," + "9" * 39):
             self.assertEqual(read_frames(text), ([], text))
             self.assertEqual(read_frames("ba,1;" + text), ([("back", "a", 1)], text))
 
     def test_texts_that_are_none(self):
-        bad = ["a", "D", "da,0", "da,01", "da,201", "da,999", "da,1000", "da,20 ", "d,", "d1", "dA", "b,", "b;", "dabcdefghi",
-               "babcdefghi", "da;", "da:", "ba:", "da,,", "da,:", "ba,;", "ba,,", "da,1;", "da,1:", "ba,1,", "ba,1:", "ba,0",
-               "ba,00", "ba,01", "ba,1" + "0" * 39, "da,1,ew", "da,1,ww", "da,1,ee", "da,1,x", "da,1,;", "da,1, ", "da,1,we;",
-               "da,1,:xy", "da,1,:x:", "da,1,:\n", "da,2,:x\n", "da,2,:" + chr(37), "da,1,:\u00e9", "da,1,:\t", "da,1,:\x7f",
-               " ", "\n", ";", ",", "da\n", "da,1\n", "da,\u0661", "d\u00e9", "ba,1;\n", "ba,-1", "ba,+1", "ba, 1", "ba,1_0",
+        bad = ["a", "D", "da,0", "da,01", "da,201", "da,999", "da,1000", "da,20 ", "d,", "d1", "dA", "b,", "b;",
+               "dabcdefghi",
+               "babcdefghi", "da;", "da:", "ba:", "da,,", "da,:", "ba,;", "ba,,", "da,1;", "da,1:", "ba,1,", "ba,1:",
+               "ba,0",
+               "ba,00", "ba,01", "ba,1" + "0" * 39, "da,1,ew", "da,1,ww", "da,1,ee", "da,1,x", "da,1,;", "da,1, ",
+               "da,1,we;",
+               "da,1,:xy", "da,1,:x:", "da,1,:\n", "da,2,:x\n", "da,2,:" + chr(37), "da,1,:\u00e9", "da,1,:\t",
+               "da,1,:\x7f",
+               " ", "\n", ";", ",", "da\n", "da,1\n", "da,\u0661", "d\u00e9", "ba,1;\n", "ba,-1", "ba,+1", "ba, 1",
+               "ba,1_0",
                "da,1,:;:", "da,2,:x;d", "w", "e", "ba,1;;"]
         for text in bad:
             raised(self, BadFrame, read_frames, text)

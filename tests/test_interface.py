@@ -5,7 +5,8 @@ import inspect
 import unittest
 
 FUNCTIONS = {
-    "kinds": ["is_integer(thing)", "is_number(least, thing)", "is_name(thing)", "is_letters(thing)", "is_moment(thing)"],
+    "kinds": ["is_integer(thing)", "is_number(least, thing)", "is_name(thing)", "is_letters(thing)",
+              "is_moment(thing)"],
     "rules": ["at_least(least, by=1)"],
     "comparing": ["apart(one, other)", "above(one, other)"],
     "repeating": ["repeated(rule, withheld, size, many)"],
@@ -41,7 +42,8 @@ CLASSES = {
         "lying(stream)", "hand(stream)", "counts(stream)", "sent()", "steps()", "plan()", "copied()", "__eq__(other)",
         "__len__()"],
     ("sender", "Sender(plan)"): [
-        "write(stream, letters, *, waits=False)", "frame(stream, many)", "take(text)", "left_of(name)", "unsent(stream)",
+        "write(stream, letters, *, waits=False)", "frame(stream, many)", "take(text)", "left_of(name)",
+        "unsent(stream)",
         "copied()"],
     ("reader", "Reader(plan)"): [
         "take(text)", "read(stream, many)", "backs()", "left_of(name)", "unpassed_of(name)", "withheld_of(name)",
@@ -53,7 +55,8 @@ CLASSES = {
         "__eq__(other)", "__len__()"],
     ("desk", "Desk(plan)"): ["execute(line)"],
 }
-PROPERTIES = {("rules", "Rule"): ["threshold"], ("accounts", "Account"): ["credit", "left", "unpassed", "withheld", "rule"]}
+PROPERTIES = {("rules", "Rule"): ["threshold"], ("accounts", "Account"): ["credit", "left", "unpassed", "withheld",
+    "rule"]}
 
 
 def listed(module, name):

@@ -142,8 +142,8 @@ class Language(unittest.TestCase):
                     self.assertIn(part.name, defined[node.module.split(".")[1]], name)
 
     def test_methods(self):
-        known = set("append clear copy count endswith extend find get index insert items join keys partition pop replace split startswith "
-                    "strip values".split())
+        known = set("append clear copy count endswith extend find get index insert items join keys partition pop replace "
+                    "split startswith strip values".split())
         methods = {node.name for _, node in nodes(ast.FunctionDef)}
         for name, node in nodes(ast.Call):
             if isinstance(node.func, ast.Attribute):

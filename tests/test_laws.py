@@ -1,9 +1,9 @@
 """Promises over several modules: frames that are cut or exchanged, and other names."""
 
 import random
-import string
 import unittest
 
+from given import other_names, renamed
 from plain import does, some_plan, some_run, some_slow, some_step, standing
 from sharedpipe.covers import cover, cover_sum, is_cover
 from sharedpipe.errors import PipeError
@@ -68,33 +68,21 @@ class Frames(unittest.TestCase):
 
 
 class Names(unittest.TestCase):
-    def names(self, pick, plan):
-        """Return other names for streams and groups, such that the order of all names with the pipe stays."""
-        old = sorted(plan.shared() + plan.streams())
-        place = old.index("pipe")
-        def some(letters, many):
-            words = set()
-            while len(words) < many:
-                words.add("".join([pick.choice(letters)] + [pick.choice(string.ascii_lowercase) for _ in range(pick.randint(0, 7))]))
-            return sorted(words)
-        new = some("abcdefghijklmno", place) + ["pipe"] + some("qrstuvwxyz", len(old) - place - 1)
-        return dict(zip(old, new))
-
     def test_runs(self):
         pick = random.Random(14)
         for _ in range(80):
             plan = some_plan(pick)
-            names = self.names(pick, plan)
-            other = plan.renamed({name: new for name, new in names.items() if name != "pipe"})
+            names = other_names(pick, plan)
+            other = renamed(plan, names)
             run = some_run(pick, plan, 25)
             run += [some_step(pick, plan)]
             like = [step[:1] + (names[step[1]],) + step[2:] for step in run]
             self.assertEqual(is_run(plan, run), is_run(other, like))
             self.assertEqual(letters(run), letters(like))
             machine, second = Machine(plan), Machine(other)
-            for step, renamed in zip(run, like):
+            for step, second_step in zip(run, like):
                 errors = []
-                for each, either in ((machine, step), (second, renamed)):
+                for each, either in ((machine, step), (second, second_step)):
                     try:
                         each.step(either)
                         errors.append(None)
@@ -106,19 +94,23 @@ class Names(unittest.TestCase):
                 self.assertEqual(standing(second), ({names[name]: row for name, row in pools.items()},
                                                     {names[name]: row for name, row in streams.items()}))
             done = machine.steps()
-            moments = [list(moment.items()) for moment in walk(other, [step[:1] + (names[step[1]],) + step[2:] for step in done])]
-            self.assertEqual(moments, [[(names[name], left) for name, left in moment.items()] for moment in walk(plan, done)])
+            like = [step[:1] + (names[step[1]],) + step[2:] for step in done]
+            moments = [list(moment.items()) for moment in walk(other, like)]
+            self.assertEqual(moments, [[(names[name], left) for name, left in moment.items()]
+                                       for moment in walk(plan, done)])
             slow = some_slow(pick, plan)
-            self.assertEqual(stopped(second, [names[name] for name in slow]), [names[name] for name in stopped(machine, slow)])
+            self.assertEqual(stopped(second, [names[name] for name in slow]),
+                             [names[name] for name in stopped(machine, slow)])
             for name in plan.shared():
-                self.assertEqual(stands_full(machine, name, slow), stands_full(second, names[name], [names[n] for n in slow]))
+                self.assertEqual(stands_full(machine, name, slow),
+                                 stands_full(second, names[name], [names[n] for n in slow]))
 
     def test_fills(self):
         pick = random.Random(15)
         for _ in range(80):
             plan = some_plan(pick)
-            names = self.names(pick, plan)
-            other = plan.renamed({name: new for name, new in names.items() if name != "pipe"})
+            names = other_names(pick, plan)
+            other = renamed(plan, names)
             slow = some_slow(pick, plan)
             like = [names[name] for name in slow]
             for name in [name for name in plan.shared() if plan[name][2] == "read"]:
@@ -137,8 +129,8 @@ class Names(unittest.TestCase):
         pick = random.Random(16)
         for _ in range(40):
             plan = some_plan(pick)
-            names = self.names(pick, plan)
-            other = plan.renamed({name: new for name, new in names.items() if name != "pipe"})
+            names = other_names(pick, plan)
+            other = renamed(plan, names)
             one, two = (Sender(plan), Reader(plan)), (Sender(other), Reader(other))
             for _ in range(40):
                 stream = pick.choice(plan.streams())

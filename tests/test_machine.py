@@ -307,7 +307,8 @@ class Streams(unittest.TestCase):
         self.assertEqual(machine.lying("a"), [(8, False), (1, True)])
 
     def test_each_way_to_end_a_message_of_the_guide(self):
-        for ends in ([("put", "g", 3, 2, False)], [("pass", "g", 1, 1)], [("begin", "g", 1, False), ("send", "g", 1, 1)]):
+        for ends in ([("put", "g", 3, 2, False)], [("pass", "g", 1, 1)],
+                     [("begin", "g", 1, False), ("send", "g", 1, 1)]):
             machine = after(guided(), ("begin", "a", 4, True), ("put", "b", 2, 1, True), *ends)
             self.assertEqual([machine.hand("a"), machine.lying("b")], [(4, 0, False), [(2, 1, False)]])
             machine.step(("put", "b", 2, 1, True))

@@ -24,19 +24,22 @@ stream c 6 3 - room sort -
 stream d 7 2 4 room sort -
 stream e 5 4 - home - f
 stream f 8 4 3 home - -"""
-STEPS = {"begin a 5 wait": ("begin", "a", 5, True), "begin a 5": ("begin", "a", 5, False), "send a 1 4": ("send", "a", 1, 4),
-         "put a 1 3": ("put", "a", 1, 3, False), "put a 1 3 wait": ("put", "a", 1, 3, True),
+STEPS = {"begin a 5 wait": ("begin", "a", 5, True), "begin a 5": ("begin", "a", 5, False),
+         "send a 1 4": ("send", "a", 1, 4), "put a 1 3": ("put", "a", 1, 3, False), "put a 1 3 wait": ("put", "a", 1, 3,
+         True),
          "read a 2 1": ("read", "a", 2, 1), "fetch b 1": ("fetch", "b", 1), "pass a 1 9": ("pass", "a", 1, 9),
          "put wait 1 2 wait": ("put", "wait", 1, 2, True), "put wait 1 2": ("put", "wait", 1, 2, False),
          "begin wait 2": ("begin", "wait", 2, False), "begin begin 2 wait": ("begin", "begin", 2, True),
          f"pass abcdefgh {LONG} 1": ("pass", "abcdefgh", LONG, 1)}
 GROUP = (5, at_least(2, 3), "come")
 DEEDS = {"pool pipe 8 - -": ("pool", "pipe", 8, None, None), "pool a - - -": ("pool", "a", None, None, None),
-         "pool home - (5/2&3) -": ("pool", "home", None, late(), None), "pool home - - come": ("pool", "home", None, None, "come"),
-         "pool home 3 2/6 read": ("pool", "home", 3, at_least(2, 6), "read"), "gone a": ("gone", "a"), "gone pipe": ("gone", "pipe"),
-         "house x 5 2/3 come -": ("house", "x", GROUP + (None,)), "house x 5 2/3 come y": ("house", "x", GROUP + ("y",)),
-         "kind x 5 2/3 come -": ("kind", "x", GROUP + (None,)), "kind kind 5 2/3 come kind": ("kind", "kind", GROUP + ("kind",)),
-         "stream a 4 1 - - - -": ("stream", "a", (4, SOON, None, None, None, None)),
+         "pool home - (5/2&3) -": ("pool", "home", None, late(), None), "pool home - - come": ("pool", "home", None,
+         None, "come"),
+         "pool home 3 2/6 read": ("pool", "home", 3, at_least(2, 6), "read"), "gone a": ("gone", "a"),
+         "gone pipe": ("gone", "pipe"), "house x 5 2/3 come -": ("house", "x", GROUP + (None,)),
+         "house x 5 2/3 come y": ("house", "x", GROUP + ("y",)), "kind x 5 2/3 come -": ("kind", "x", GROUP + (None,)),
+         "kind kind 5 2/3 come kind": ("kind", "kind", GROUP + ("kind",)), "stream a 4 1 - - - -": ("stream", "a", (4,
+         SOON, None, None, None, None)),
          "stream a 4 1 3 h k g": ("stream", "a", (4, SOON, 3, "h", "k", "g")),
          "stream pipe 4 1 - h - pipe": ("stream", "pipe", (4, SOON, None, "h", None, "pipe"))}
 
@@ -84,7 +87,8 @@ class Rules(Texts):
     def test_there_and_back(self):
         rules = {"1": SOON, "5/2": at_least(5, 2), "(5/2&3)": late(), "(1|2/6)": at_least(1) | at_least(2, 6),
                  "((1|2)&(3/3|4))": (at_least(1) | at_least(2)) & (at_least(3, 3) | at_least(4)),
-                 "(((((1|2)|3)|4)|5)|6)": at_least(1) | at_least(2) | at_least(3) | at_least(4) | at_least(5) | at_least(6),
+                 "(((((1|2)|3)|4)|5)|6)": (at_least(1) | at_least(2) | at_least(3) | at_least(4) | at_least(5)
+                                           | at_least(6)),
                  "(1&(2&(3&(4&(5&6/6)))))": None, str(LONG): at_least(LONG), f"{LONG}/6": at_least(LONG, 6)}
         for text, rule in rules.items():
             if rule is not None:
@@ -102,10 +106,11 @@ class Rules(Texts):
     def test_what_is_no_rule(self):
         nines = "9" * 39
         self.assertEqual(read_rule(nines).tree(), ("at", int(nines), 1))
-        bad = ["0", "01", "5/1", "5/0", "5/7", "5/02", "5/", "/2", "5/2/3", "-", "-1", "+1", "1.5", "1e3", "a", "(1)", "(1|)", "(|1)", "()",
-               "(1|2", "1|2", "1|2)", "(1|2)3", "(1|2))", "((1|2)", "(1|2|3)", "(1||2)", "(1+2)", "(1 |2)", " 1", "1 ", "1\n",
-               "(1|2)|3", "((((((1|2)|3)|4)|5)|6)|7)", "(1&(2&(3&(4&(5&(6&7))))))", nines + "1", "1" + "0" * 39, "5/" + "1" * 40,
-               "\u0661", "\u00b2", "1_0", "(" * 5000, "(" * 200 + "1", "1" * 9000, "(1|1)" * 20]
+        bad = ["0", "01", "5/1", "5/0", "5/7", "5/02", "5/", "/2", "5/2/3", "-", "-1", "+1", "1.5", "1e3", "a", "(1)",
+               "(1|)", "(|1)", "()", "(1|2", "1|2", "1|2)", "(1|2)3", "(1|2))", "((1|2)", "(1|2|3)", "(1||2)", "(1+2)",
+               "(1 |2)", " 1", "1 ", "1\n", "(1|2)|3", "((((((1|2)|3)|4)|5)|6)|7)", "(1&(2&(3&(4&(5&(6&7))))))",
+               nines + "1", "1" + "0" * 39,
+               "5/" + "1" * 40, "\u0661", "\u00b2", "1_0", "(" * 5000, "(" * 200 + "1", "1" * 9000, "(1|1)" * 20]
         for text in bad + things():
             raised(self, NoText, read_rule, text)
 
@@ -124,7 +129,8 @@ class Plans(Texts):
         two = "pipe 2 2 read\nstream a 1 1 - - - -\nstream b 1 1 1 - - -"
         self.assertEqual(show_plan(read_plan(two)), two)
         self.assertEqual(read_plan(show_plan(great())), great())
-        self.assertEqual(read_plan("pipe 6 2 come\nkind k 5 1 read -\nkind l 5 1 read k\nstream a 4 1 - - k -").over("a"), ["a", "k", "pipe"])
+        nested = "pipe 6 2 come\nkind k 5 1 read l\nkind l 5 1 read -\nstream a 4 1 - - k -"
+        self.assertEqual(read_plan(nested).over("a"), ["a", "k", "l", "pipe"])
 
     def test_any_plan(self):
         pick = random.Random(104)
@@ -139,9 +145,12 @@ class Plans(Texts):
 
     def test_what_is_no_plan(self):
         lines = PLAN.split("\n")
-        bad = ["", "\n", " ", "pipe", "pipe 30 5", "pipe 30 5 read ", " pipe 30 5 read", "pipe 30  5 read", "pipe - 5 read", "pipe 30 - read",
-               "pipe 30 5 -", "pipe 0 5 read", "pipe 030 5 read", "pipe 30 5 now", "pipe read 5 read", "pipe pipe 5 read", "pipe 30 5 30", "pipe 30 read read", "pipe 30 5 read -", "house 30 5 read", "Pipe 30 5 read",
-               PLAN + "\n", "\n" + PLAN, PLAN + "\n\n", PLAN.replace("\n", "\n\n", 1), PLAN.replace("\n", " "), PLAN.replace(" ", "  "),
+        bad = ["", "\n", " ", "pipe", "pipe 30 5", "pipe 30 5 read ", " pipe 30 5 read", "pipe 30  5 read",
+               "pipe - 5 read", "pipe 30 - read", "pipe 30 5 -", "pipe 0 5 read", "pipe 030 5 read", "pipe 30 5 now",
+               "pipe read 5 read", "pipe pipe 5 read", "pipe 30 5 30", "pipe 30 read read", "pipe 30 5 read -",
+               "house 30 5 read", "Pipe 30 5 read",
+               PLAN + "\n", "\n" + PLAN, PLAN + "\n\n", PLAN.replace("\n", "\n\n", 1), PLAN.replace("\n", " "),
+               PLAN.replace(" ", "  "),
                PLAN.replace("-", "None"), PLAN + "\npipe 30 5 read", PLAN.replace("30", "1" * 40), "\n".join(lines[1:]),
                PLAN + "\ngone a", PLAN + "\npool a - - -", "pipe 30 5 read\npool a 3 1 read\nstream a 5 2 - - - -"]
         for text in bad + things():
@@ -165,7 +174,8 @@ class Plans(Texts):
     def test_a_sign_or_a_word_put_otherwise(self):
         text = show_plan(example())
         self.assertGreater(self.there_and_back(read_plan, show_plan, changed_texts(text)), 20)
-        texts = [other for line in PLAN.split("\n") for other in [PLAN.replace(line, row) for row in changed_words(line)]]
+        texts = [other for line in PLAN.split("\n") for other in [PLAN.replace(line, row)
+                                                                  for row in changed_words(line)]]
         self.assertGreater(self.there_and_back(read_plan, show_plan, texts), 3)
         self.there_and_back(read_plan, show_plan, changed_words(PLAN, "\n"))
 
@@ -174,8 +184,10 @@ class Plans(Texts):
                  ("pipe 3 1 read\nstream a 3 1 - - - -\nstream pipe 3 1 - - - -", Twice, "pipe"),
                  ("pipe 3 1 read\nhouse a 3 1 read -\nstream a 3 1 - - - -", Twice, "a"),
                  ("pipe 3 1 read\nhouse h 3 1 read -\nkind h 3 1 read -\nstream a 3 1 - - - -", Twice, "h"),
-                 ("pipe 3 1 read\nstream a 3 1 - h - -", Unknown, "h"), ("pipe 3 1 read\nhouse h 3 1 read h\nstream a 3 1 - h - -", Ring, "h"),
-                 ("pipe 3 1 read\nstream a 3 1 - - - a", BadGuide, "a"), ("pipe 3 1 read\nstream a 3 4 - - - -", Narrow, "a"),
+                 ("pipe 3 1 read\nstream a 3 1 - h - -", Unknown, "h"),
+                 ("pipe 3 1 read\nhouse h 3 1 read h\nstream a 3 1 - h - -", Ring, "h"),
+                 ("pipe 3 1 read\nstream a 3 1 - - - a", BadGuide, "a"),
+                 ("pipe 3 1 read\nstream a 3 4 - - - -", Narrow, "a"),
                  ("pipe 3 4 come\nstream a 3 1 - - - -", Narrow, "pipe")]
         for text, error, told in cases:
             self.assertEqual(list(vars(raised(self, error, read_plan, text)).values()), [told])
@@ -203,11 +215,15 @@ class Steps(Texts):
             self.assertEqual(read_step(show_step(step)), step)
 
     def test_what_is_no_step(self):
-        bad = ["", "begin", "begin a", "begin a wait", "begin a 0", "begin a 05", "begin a -1", "begin a 5 wait wait", "begin a 5 Wait", "begin a 5 w",
-               "begin  a 5", " begin a 5", "begin a 5 ", "begin a 5\n", "begin A 5", "begin abcdefghi 5", "begin - 5", "begin a 5 False", "begin a 5 6",
-               "send a 1", "send a 1 4 wait", "send a 1 4 5", "put a 1", "put a 1 wait", "put a 1 2 3", "put a 1 2 3 wait", "read a 1", "read a 1 2 wait",
-               "fetch a", "fetch a 1 2", "fetch a wait", "fetch a 1 wait", "pass a 1", "pass a 1 2 wait", "Pass a 1 2", "pas a 1 2", "pass a 1,2", "pass a one 2", "pass a read 2", "fetch a read", "put a b 1",
-               "put a 1 " + "1" * 40, "put a " + "9" * 40 + " 1", "begin a 5, begin a 5", "-", "pass wait", "begin wait", "put wait 1", "put wait 1 wait"]
+        bad = ["", "begin", "begin a", "begin a wait", "begin a 0", "begin a 05", "begin a -1", "begin a 5 wait wait",
+               "begin a 5 Wait", "begin a 5 w", "begin  a 5", " begin a 5", "begin a 5 ", "begin a 5\n", "begin A 5",
+               "begin abcdefghi 5", "begin - 5", "begin a 5 False", "begin a 5 6",
+               "send a 1", "send a 1 4 wait", "send a 1 4 5", "put a 1", "put a 1 wait", "put a 1 2 3",
+               "put a 1 2 3 wait", "read a 1", "read a 1 2 wait", "fetch a", "fetch a 1 2", "fetch a wait",
+               "fetch a 1 wait", "pass a 1", "pass a 1 2 wait", "Pass a 1 2",
+               "pas a 1 2", "pass a 1,2", "pass a one 2", "pass a read 2", "fetch a read", "put a b 1",
+               "put a 1 " + "1" * 40, "put a " + "9" * 40 + " 1", "begin a 5, begin a 5", "-", "pass wait",
+               "begin wait", "put wait 1", "put wait 1 wait"]
         for text in bad + things():
             raised(self, NoText, read_step, text)
         self.assertEqual(read_step("put a 1 " + "9" * 39), ("put", "a", 1, 10 ** 39 - 1, False))
@@ -233,8 +249,9 @@ class Runs(Texts):
             self.assertEqual(read_run(show_run(run)), run)
 
     def test_what_is_no_run(self):
-        bad = ["", " ", "--", "-, -", "begin a 5,", "begin a 5, ", ", begin a 5", "begin a 5,fetch b 1", "begin a 5 , fetch b 1", "begin a 5,  fetch b 1",
-               "begin a 5, , fetch b 1", "begin a 5\nfetch b 1", "begin a 5, -", "begin a 5, fetch b", "begin a 5;fetch b 1"]
+        bad = ["", " ", "--", "-, -", "begin a 5,", "begin a 5, ", ", begin a 5", "begin a 5,fetch b 1",
+               "begin a 5 , fetch b 1", "begin a 5,  fetch b 1", "begin a 5, , fetch b 1", "begin a 5\nfetch b 1",
+               "begin a 5, -", "begin a 5, fetch b", "begin a 5;fetch b 1"]
         for text in bad + things():
             raised(self, NoText, read_run, text)
 
@@ -264,12 +281,17 @@ class Deeds(Texts):
             self.assertEqual(read_deed(show_deed(deed)), deed)
 
     def test_what_is_no_deed(self):
-        bad = ["", "gone", "gone a b", "gone -", "gone A", "gone  a", "gone a ", " gone a", "gone a\n", "gone a\ngone b", "Gone a", "pool a", "pool a - -",
-               "pool a - - - -", "pool - - - -", "pool a 0 - -", "pool a 01 - -", "pool a - 0 -", "pool a - - -1", "pool a - - now", "pool a - 1/1 -",
-               "pool a None - -", "pool a read - -", "pool a b - -", "pool a - read -", "pool a - - b", "pool a - - 3", "pool a - (1) -", "pool a " + "1" * 40 + " - -", "house x 5 2/3 come", "house x - 2/3 come -", "house x 5 - come -",
-               "house x 5 2/3 - -", "house x 5 2/3 come - -", "house - 5 2/3 come -", "house x 5 2/3 come Y", "kind x 5 2/3 come", "kind x 0 1 come -",
-               "stream a 4 1 - - -", "stream a 4 1 - - - - -", "stream a - 1 - - - -", "stream a read 1 - - - -", "stream a 4 1 read - - -", "stream a 4 1 b - - -", "house b 5 2/3 b -", "stream a 4 - - - - -", "stream a 4 1 0 - - -",
-               "stream a 4 1 - - - 3", "stream a 4 1 - h,k - -", "stream 4 1 - - - -", "pipe 30 5 read", "back", "-"]
+        bad = ["", "gone", "gone a b", "gone -", "gone A", "gone  a", "gone a ", " gone a", "gone a\n",
+               "gone a\ngone b", "Gone a", "pool a", "pool a - -", "pool a - - - -", "pool - - - -", "pool a 0 - -",
+               "pool a 01 - -", "pool a - 0 -", "pool a - - -1", "pool a - - now", "pool a - 1/1 -",
+               "pool a None - -", "pool a read - -", "pool a b - -", "pool a - read -", "pool a - - b", "pool a - - 3",
+               "pool a - (1) -", "pool a " + "1" * 40 + " - -", "house x 5 2/3 come", "house x - 2/3 come -",
+               "house x 5 - come -", "house x 5 2/3 - -", "house x 5 2/3 come - -", "house - 5 2/3 come -",
+               "house x 5 2/3 come Y", "kind x 5 2/3 come", "kind x 0 1 come -",
+               "stream a 4 1 - - -", "stream a 4 1 - - - - -", "stream a - 1 - - - -", "stream a read 1 - - - -",
+               "stream a 4 1 read - - -", "stream a 4 1 b - - -", "house b 5 2/3 b -", "stream a 4 - - - - -",
+               "stream a 4 1 0 - - -", "stream a 4 1 - - - 3", "stream a 4 1 - h,k - -", "stream 4 1 - - - -",
+               "pipe 30 5 read", "back", "-"]
         for text in bad + things():
             raised(self, NoText, read_deed, text)
 
@@ -304,8 +326,9 @@ class Logs(Texts):
 
     def test_the_first_deed_that_is_refused(self):
         good = ["pool pipe 8 - -", "gone b", "house x 5 1 read -"]
-        for wrong in ("gone z", "gone pipe", "pool z - - -", "pool a - - read", "stream pipe 4 1 - - - -", "house home 5 1 read home",
-                      "pool a - 9 -", "gone home", "stream c 4 1 - nohouse - -", "stream a 4 1 - - - a"):
+        for wrong in ("gone z", "gone pipe", "pool z - - -", "pool a - - read", "stream pipe 4 1 - - - -",
+                      "house home 5 1 read home", "pool a - 9 -", "gone home", "stream c 4 1 - nohouse - -",
+                      "stream a 4 1 - - - a"):
             for at in range(4):
                 lines = good[:at] + [wrong] + good[at:] + ["gone z"]
                 self.assertEqual(raised(self, Broken, read_log, example(), "\n".join(lines)).at, at)
@@ -318,7 +341,8 @@ class Logs(Texts):
             self.assertEqual(raised(self, Broken, read_log, example(), text + "\n" + more).at, 60)
 
     def test_what_is_no_log(self):
-        for text in ["\n", "gone a\n", "\ngone a", "gone a\n\ngone b", " ", "-", "gone z\nback", "gone z\ngone", "pool a - 9 -\n5"] + things():
+        for text in ["\n", "gone a\n", "\ngone a", "gone a\n\ngone b", " ", "-", "gone z\nback", "gone z\ngone",
+                     "pool a - 9 -\n5"] + things():
             if text != "":
                 # Ahead of Broken, too.
                 raised(self, NoText, read_log, example(), text)
@@ -327,7 +351,8 @@ class Logs(Texts):
         plan = example()
         one = read_log(plan, "pool pipe 8 - -")
         one.do(("gone", "b"))
-        self.assertEqual([plan, read_log(plan, "pool pipe 8 - -").log()], [example(), [("pool", "pipe", 8, None, None)]])
+        self.assertEqual([plan, read_log(plan, "pool pipe 8 - -").log()],
+                         [example(), [("pool", "pipe", 8, None, None)]])
         book = Book(plan)
         show_log(book)
         self.assertEqual(book, Book(plan))
@@ -342,5 +367,6 @@ class Examples(unittest.TestCase):
         self.assertEqual(show_step(("put", "a", 10 ** 40, 1, True)), "put a " + str(10 ** 40) + " 1 wait")
 
     def test_a_plan_of_parts(self):
-        plan = Plan((2, at_least(2), "read"), {}, {}, {"b": (1, SOON, 1, None, None, None), "a": (1, SOON, None, None, None, None)})
+        plan = Plan((2, at_least(2), "read"), {}, {}, {"b": (1, SOON, 1, None, None, None),
+                                                       "a": (1, SOON, None, None, None, None)})
         self.assertEqual(show_plan(plan), "pipe 2 2 read\nstream a 1 1 - - - -\nstream b 1 1 1 - - -")

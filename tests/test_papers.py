@@ -178,10 +178,12 @@ class StopRuns(unittest.TestCase):
                     tried += 1
                     if due and changed != step:
                         good.append(changed)
-            for gone in (RUN[:at] + RUN[at + 1:], RUN[:at] + [RUN[at]] + RUN[at:], RUN[:at] + [list(step)] + RUN[at + 1:]):
+            for gone in (RUN[:at] + RUN[at + 1:], RUN[:at] + [RUN[at]] + RUN[at:],
+                         RUN[:at] + [list(step)] + RUN[at + 1:]):
                 self.assertIs(is_stop_run(plan, "b", ["a"], gone), False)
         self.assertGreater(tried, 200)
-        self.assertEqual(good, [("pass", "a", 1, 1), ("pass", "b", 1, 3), ("pass", "b", 1, 5), ("begin", "b", 2, False)])
+        self.assertEqual(good, [("pass", "a", 1, 1), ("pass", "b", 1, 3), ("pass", "b", 1, 5),
+                                ("begin", "b", 2, False)])
 
     def test_two_things_put_otherwise(self):
         plan, pick = example(), random.Random(79)
@@ -228,7 +230,7 @@ class StopRuns(unittest.TestCase):
 
 class Papers(unittest.TestCase):
     def plan(self):
-        """Return a Plan and slow streams with which d is safe and has four pools over it, one with the moment "come"."""
+        """Return a Plan and slow streams with which d is safe; one of the pools over it has the moment "come"."""
         return mixed(40, 30, 30, moment="come"), ["a", "c"]
 
     def test_the_paper(self):
@@ -243,7 +245,8 @@ class Papers(unittest.TestCase):
         plan, slow = self.plan()
         paper = safe_paper(plan, "d", slow)
         # Of the pipe: its credit less its threshold is 35; a 5, c 6, d 3, e 5, f 2 are 21.
-        for thing, due in ((((), tuple("acdef")), True), (((), tuple("abcdef")), True), ((("room",), tuple("aef")), True),
+        for thing, due in ((((), tuple("acdef")), True), (((), tuple("abcdef")), True),
+                           ((("room",), tuple("aef")), True),
                            ((("sort",), tuple("cdef")), False), ((("room", "sort"), tuple("ef")), False),
                            (((), tuple("acde")), False), ((("home",), tuple("a")), False)):
             self.assertIs(is_safe_paper(plan, "d", slow, {**paper, "pipe": thing}), due, thing)
@@ -260,7 +263,8 @@ class Papers(unittest.TestCase):
         for name, thing in paper.items():
             rest = {other: paper[other] for other in paper if other != name}
             bad += [rest, {**rest, "home": thing}, {**rest, "z": thing}, {**rest, None: thing}]
-            bad += [{**paper, name: other} for other in (list(thing), thing[:1], thing + ((),), None, (), ("", ""), thing[::-1])]
+            bad += [{**paper, name: other} for other in (list(thing), thing[:1], thing + ((),), None, (), ("", ""),
+                                                         thing[::-1])]
             bad += [{**paper, name: (thing[0], thing[1][1:])}, {**paper, name: (thing[0], list(thing[1]))},
                     {**paper, name: (thing[0], thing[1][::-1])}, {**paper, name: (thing[0] + (name,), thing[1])},
                     {**paper, name: (thing[0] + ("home",), thing[1])}, {**paper, name: (thing[0], thing[1] + ("z",))}]

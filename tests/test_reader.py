@@ -89,7 +89,8 @@ class Taking(unittest.TestCase):
     def test_frames_that_cannot_come(self):
         bad = ["dz,1,:x;", "dhome,1,:x;", "dpipe,1,:x;", "ba,1;", "bpipe,1;", "da,1,w:x;", "da,1,we:x;", "dc,1,w:x;",
                "dg,1,w:g;", "db,1,w:z;", "db,19,:" + "z" * 19 + ";", "db,18,:" + "z" * 18 + ";db,1,e:z;",
-               "db,1,e:z;db,21,:" + "z" * 21 + ";", "da,1,e:x;da,1,we:y;da,1,we:z;da,1,w:x;da,1,w:x;", "x", "da,0", "da,1,:xx",
+               "db,1,e:z;db,21,:" + "z" * 21 + ";", "da,1,e:x;da,1,we:y;da,1,we:z;da,1,w:x;da,1,w:x;", "x", "da,0",
+               "da,1,:xx",
                "da,1,:\n", "da,1,:x;\n", "dg,1,e:g;dg,1,we:h;", "db,1,e:z;db,20,:" + "z" * 20 + ";db,1,:z;"]
         for text in bad:
             self.refuses(text, BadFrame)
@@ -122,7 +123,8 @@ class Taking(unittest.TestCase):
 
 class Credit(unittest.TestCase):
     def pools(self, own, house, hall, pipe, moment="read", rule=SOON):
-        return Plan((pipe, rule, moment), {"hall": (hall, rule, moment, None), "house": (house, rule, moment, "hall")}, {},
+        return Plan((pipe, rule, moment), {"hall": (hall, rule, moment, None), "house": (house, rule, moment, "hall")},
+                    {},
                     {"a": (own, SOON, None, "house", None, None), "b": (99, SOON, None, None, None, None)})
 
     def lacks(self, reader, text, name):
@@ -223,8 +225,10 @@ class Reading(unittest.TestCase):
         copy = reader.copied()
         self.assertEqual(told(copy), told(reader))
         copy.take("34;db,1,e:z;")
-        self.assertEqual([copy.readable("c"), reader.readable("c"), copy.readable("b"), reader.readable("b")], [7, 3, 1, 0])
-        self.assertEqual([copy.read("c", 5), copy.read("b", 1), copy.backs()], [["abc12"], ["xyz"], "bb,3;bc,5;bpipe,8;"])
+        self.assertEqual([copy.readable("c"), reader.readable("c"), copy.readable("b"), reader.readable("b")],
+                         [7, 3, 1, 0])
+        self.assertEqual([copy.read("c", 5), copy.read("b", 1), copy.backs()],
+                         [["abc12"], ["xyz"], "bb,3;bc,5;bpipe,8;"])
         self.assertEqual(reader.backs(), "")
         reader.take("!!;")
         self.assertEqual([reader.read("c", 4), reader.backs()], [["abc1"], "bc,4;bpipe,4;"])
@@ -258,7 +262,8 @@ class Reading(unittest.TestCase):
 
     def test_fifteen_hundred_frames(self):
         reader = Reader(plan(LONG, LONG, LONG))
-        reader.take("".join([show_frame(("data", "c", chr(97 + at % 26) * 200, False, at % 3 == 0)) for at in range(1500)]))
+        reader.take("".join([show_frame(("data", "c", chr(97 + at % 26) * 200, False, at % 3 == 0))
+                             for at in range(1500)]))
         self.assertEqual(reader.readable("c"), 300000)
         read = "".join([reader.read("c", 7)[0] for _ in range(300000 // 7)])
         self.assertEqual(read, "".join([chr(97 + at % 26) * 200 for at in range(1500)])[:300000 // 7 * 7])

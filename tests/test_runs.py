@@ -62,7 +62,8 @@ class Runs(unittest.TestCase):
     def test_is_run(self):
         for run in (RUN, tuple(RUN), [], (), RUN[:1]):
             self.assertIs(is_run(plan(), run), True)
-        for thing in [thing for thing in things() if thing not in ([], ())] + [RUN[0], {0: RUN[0]}, set(RUN), iter(RUN)]:
+        for thing in [thing for thing in things() if thing not in ([], ())] + [RUN[0], {0: RUN[0]}, set(RUN),
+            iter(RUN)]:
             self.assertIs(is_run(plan(), thing), False)
 
     def test_things_that_are_no_runs_at_all(self):

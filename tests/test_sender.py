@@ -73,7 +73,8 @@ class Sending(unittest.TestCase):
     def test_at_most_many(self):
         sender = Sender(plan())
         sender.write("c", "hello")
-        self.assertEqual([sender.frame("c", many) for many in (1, 3, 9, 9)], ["dc,1,:h;", "dc,3,:ell;", "dc,1,e:o;", ""])
+        self.assertEqual([sender.frame("c", many) for many in (1, 3, 9, 9)],
+                         ["dc,1,:h;", "dc,3,:ell;", "dc,1,e:o;", ""])
         self.assertEqual(told(sender), ([30, 30, 25, 30, 40, 45], [0, 0, 0, 0]))
 
     def test_at_most_what_is_left_of_the_message(self):
@@ -169,7 +170,8 @@ class Taking(unittest.TestCase):
         self.assertEqual(told(sender), told(whole))
 
     def test_strings_that_are_not_taken(self):
-        bad = ["ba,7;", "ba,1;ba,6;", "ba,6;ba,1;", "ba,2;ba,2;ba,2;ba,1;", "bb,1;", "bpipe,11;", "bz,1;", "ba,1;bzz,1;",
+        bad = ["ba,7;", "ba,1;ba,6;", "ba,6;ba,1;", "ba,2;ba,2;ba,2;ba,1;", "bb,1;", "bpipe,11;", "bz,1;",
+               "ba,1;bzz,1;",
                "da,1,:x;", "ba,1;da,1,e:x;", "ba,0;", "ba,01;", "x", "ba,1;x", "ba,1;ba,1;\n", "ba,1\n", "bhome,7;",
                "ba,1;bhome,1;bpipe," + "9" * 39 + ";", "ba,1;d,"]
         for text in bad:

@@ -56,11 +56,13 @@ class SlowSets(unittest.TestCase):
     def test_slow_streams_without_the_stream_itself(self):
         plan = four(10)
         self.assertEqual([slow_sets(plan, stream) for stream in "abcd"],
-                         [[("b", "d"), ("c", "d")], [("a", "d"), ("c", "d")], [("a", "d"), ("b", "d")], [("a", "b", "c")]])
+                         [[("b", "d"), ("c", "d")], [("a", "d"), ("c", "d")], [("a", "d"), ("b", "d")],
+                          [("a", "b", "c")]])
         self.assertEqual(borne(plan), 1)
 
     def test_without_any(self):
-        plan = Plan((3, at_least(4), "read"), {}, {}, {"a": (5, SOON, None, None, None, None), "b": (5, SOON, None, None, None, None)})
+        plan = Plan((3, at_least(4), "read"), {}, {}, {"a": (5, SOON, None, None, None, None),
+                                                       "b": (5, SOON, None, None, None, None)})
         self.assertEqual([slow_sets(plan, "a"), slow_sets(plan, "b"), borne(plan)], [[()], [()], -1])
         alone = Plan((3, SOON, "read"), {}, {}, {"a": (5, SOON, 4, None, None, None)})
         self.assertEqual([slow_sets(alone, "a"), borne(alone)], [[()], -1])
@@ -147,7 +149,8 @@ class Parted(unittest.TestCase):
             raised(self, Unlike, parted, two, one)
         # The same guides of other streams are no hindrance.
         other["c"] = streams["c"][:3] + ("home", None, "f")
-        self.assertIn(parted(one, Plan(pipe, houses, kinds, other)), (None, parted(Plan(pipe, houses, kinds, other), one)))
+        self.assertIn(parted(one, Plan(pipe, houses, kinds, other)),
+                      (None, parted(Plan(pipe, houses, kinds, other), one)))
 
     def test_against_the_words(self):
         pick = random.Random(82)
@@ -172,7 +175,8 @@ class Laws(unittest.TestCase):
         start = time.monotonic()
         plan = great()
         self.assertEqual([slow_sets(plan, stream) for stream in plan.streams()], [[()], [("e",)], [()], [()], [], []])
-        self.assertEqual([borne(plan), parted(plan, plan), parted(plan, plan.with_pool("pipe", credit=9))], [-1, None, ((), "b")])
+        self.assertEqual([borne(plan), parted(plan, plan), parted(plan, plan.with_pool("pipe", credit=9))],
+                         [-1, None, ((), "b")])
         self.assertLess(time.monotonic() - start, 5)
 
     def test_other_rules_and_other_names(self):
@@ -187,7 +191,8 @@ class Laws(unittest.TestCase):
             for stream in plan.streams():
                 found = slow_sets(plan, stream)
                 self.assertEqual(slow_sets(other, stream), found)
-                self.assertEqual(slow_sets(like, names[stream]), [tuple([names[one] for one in slow]) for slow in found])
+                self.assertEqual(slow_sets(like, names[stream]),
+                                 [tuple([names[one] for one in slow]) for slow in found])
             shared = plan.with_pool("pipe", credit=plan["pipe"][0] + 2)
             row = parted(plan, shared)
             row = row and (tuple([names[one] for one in row[0]]), names[row[1]])

@@ -67,7 +67,8 @@ class Tables(unittest.TestCase):
         self.assertEqual(Standings(two()).rows(), [
             ((0, 0, 0), ((), ((), ()))), ((0, 0, 0), ((), (((1, False),), ()))),
             ((0, 0, 0), (((1, False),), ((), ()))), ((0, 0, 0), (((1, False),), (((1, False),), ()))),
-            ((0, 0, 1), ((), ((), ()))), ((0, 0, 1), ((), (((1, False),), ()))), ((0, 0, 1), (((1, False),), ((), ())))])
+            ((0, 0, 1), ((), ((), ()))), ((0, 0, 1), ((), (((1, False),), ()))),
+            ((0, 0, 1), (((1, False),), ((), ())))])
 
     def test_what_waits_and_what_is_released(self):
         table = Standings(guiding())
@@ -78,15 +79,18 @@ class Tables(unittest.TestCase):
             self.assertIs(((0, 0, 0), lines) in table, due, lines)
         table = Standings(guiding(2))
         for lines, due in (((((), (1, True)), ((), ())), True), ((((), (1, True)), ((), (1, False))), True),
-                           ((((), (1, False)), (((1, False),), ())), True), ((((), (1, True)), (((1, False),), ())), True),
-                           (((((1, True),), (1, False)), ((), ())), True), (((((1, False),), (1, True)), ((), ())), True),
+                           ((((), (1, False)), (((1, False),), ())), True),
+                           ((((), (1, True)), (((1, False),), ())), True),
+                           (((((1, True),), (1, False)), ((), ())), True),
+                           (((((1, False),), (1, True)), ((), ())), True),
                            ((((), (2, True)), ((), ())), False), (((((2, True),), ()), ((), ())), True),
                            (((((3, True),), ()), ((), ())), False), ((((), ()), ((), (1, True))), False)):
             self.assertIs(((0, 0, 0), lines) in table, due, lines)
 
     def test_how_many_there_may_be(self):
         for plan, many in ((alone(1), 2), (two(), 7), (alone(999), 1000), (alone(1000), 1001),
-                           (alone(3999), 4000), (alone(1000, moment="come"), 1001), (alone(3999, rule=at_least(1, 1)), 4000)):
+                           (alone(3999), 4000), (alone(1000, moment="come"), 1001),
+                           (alone(3999, rule=at_least(1, 1)), 4000)):
             self.assertEqual(len(Standings(plan, most=many)), many)
             self.assertEqual(len(Standings(plan, most=min(many + 1, 4000))), many)
             self.assertEqual(raised(self, TooMany, Standings, plan, most=many - 1).limit, many - 1)
@@ -127,7 +131,8 @@ class Tables(unittest.TestCase):
         found, waiting = {standing_of(start)}, [start]
         while waiting:
             machine = waiting.pop()
-            steps = [("put", "a", size, 1, False) for size in range(1, 17)] + [("read", "a", size, 1) for size in range(1, 17)]
+            steps = [("put", "a", size, 1, False) for size in range(1, 17)] + [("read", "a", size, 1)
+                for size in range(1, 17)]
             for step in steps:
                 other = machine.copied()
                 if does(other, step) and standing_of(other) not in found:
@@ -152,7 +157,8 @@ class Tables(unittest.TestCase):
         while seen < 25:
             plan = some_plan(pick, streams=1, small=True)
             for name in ["pipe", "a"]:
-                one, other = at_least(pick.randint(1, 9), pick.randint(1, 4)), at_least(pick.randint(1, 9), pick.randint(1, 4))
+                one, other = at_least(pick.randint(1, 9), pick.randint(1, 4)), at_least(pick.randint(1, 9),
+                    pick.randint(1, 4))
                 rule = pick.choice([one, one | other, one & other, (one & other) | at_least(8, 3)])
                 plan = plan.with_pool(name, credit=pick.randint(10, 14), rule=rule)
             try:
@@ -248,7 +254,8 @@ class Machines(unittest.TestCase):
         self.assertEqual(standing_of(machine), ((0, 0, 0, 1), (((2, False),), (((3, False),), ()))))
         machine.step(("begin", "a", 5, False))
         self.assertEqual(standing_of(machine), ((0, 0, 0, 1), (((2, False),), (((3, False),), ()))))
-        plan = Plan((2000, SOON, "read"), {}, {}, {"a": (2000, SOON, 3, None, None, "g"), "g": (1, SOON, None, None, None, None)})
+        plan = Plan((2000, SOON, "read"), {}, {}, {"a": (2000, SOON, 3, None, None, "g"),
+                                                   "g": (1, SOON, None, None, None, None)})
         machine = played(plan, [("put", "a", 1, 2, False), ("put", "a", 1, 900, True), ("put", "a", 2, 98, True),
                                 ("begin", "a", 3, True), ("send", "a", 2, 1)])
         row = ((1, False),) * 2 + ((1, True),) * 900 + ((2, True),) * 98
@@ -321,23 +328,28 @@ class Closed(unittest.TestCase):
                    ((0, 0, 0), (((4, True),), ())), ((0, 0, 0), (((2, True),), ((2, False),))),
                    ((0, 0, 0), (((1, True), (1, True)), ())), ((0, 0, 0), ((), ((1, False), (1, False)))),
                    ((0, 0, 0), (((1, True),), ((1, True),)))]
-        self.check_strange(plan, strange)
-        for row in (((0, 0, 0), (((0, True),), ())), ((0, 0, -1), ((), ())), ((0, 0, 0), (((-1, True),), ()))):
+        self.check_strange(plan, strange + [((0, 0, -1), ((), ()))])
+        for row in (((0, 0, 0), (((0, True),), ())), ((0, 0, 0), (((-1, True),), ()))):
             self.assertIs(is_closed(plan, Standings(plan).rows() + [row]), False, row)
+        # Here a has no credit for more.
+        self.check_strange(guiding(), [((0, 0, 0), (((1, True), (1, True)), ()))])
         plan = guiding(2).with_pool("a", credit=5).with_pool("g", credit=5)
         strange = [((0, 0, 0), lines) for lines in (
             ((((3, False),), ()), ((), ())), ((((1, False), (3, False)), ()), ((), ())), (((), (2, False)), ((), ())),
             (((), (3, True)), ((), ())), (((), ()), ((), (1, True))), (((), ()), (((1, True),), ())),
-            (((), (1, True)), (((1, False), (1, True)), ())), ((((2, True), (2, True)), ()), ((), ())))]
+            (((), (1, True)), (((1, False), (1, True)), ())), ((((2, True), (2, True)), ()), ((), ())),
+            (((), (0, False)), ((), ())), ((((0, False),), ()), ((), ())))]
         self.check_strange(plan, strange)
         rows = Standings(plan).rows()
-        for lines in ((((), (0, False)), ((), ())), (((), (1,)), ((), ())), (((), None), ((), ())), (((), ()), ()),
-                      (((), (), ()), ((), ())), (((), ((1, False),)), ((), ())), (((), []), ((), ())), (([], ()), ((), ()))):
+        for lines in ((((), (1,)), ((), ())), (((), None), ((), ())), (((), ()), ()),
+                      (((), (), ()), ((), ())), (((), ((1, False),)), ((), ())), (((), []), ((), ())),
+                      (([], ()), ((), ()))):
             self.assertIs(is_closed(plan, rows + [((0, 0, 0), lines)]), False, lines)
         # What a pool withholds: less than its threshold, and not more than its credit.
         plan = Plan((3, at_least(4), "read"), {}, {}, {"a": (9, at_least(3), None, None, None, None)})
         self.check_strange(plan, [((3, 0), ((),)), ((0, 4), ((),)), ((1, 2), (((2, False),),))])
-        self.assertIs(is_closed(plan, self.closed(plan, Standings(plan).rows() + [((2, 3), ((),)), ((1, 2), (((1, False),),))])), True)
+        self.assertIs(is_closed(plan, self.closed(plan, Standings(plan).rows() + [((2, 3), ((),)),
+            ((1, 2), (((1, False),),))])), True)
 
     def check_strange(self, plan, strange):
         """Check that no list with one of these is closed, though it has all to which they lead."""
@@ -394,6 +406,48 @@ class Closed(unittest.TestCase):
             rows = list(search.closure([min(search.letters), ((0, 0, 1, 0, 0), (line, other))]))
             self.assertGreater(len(rows), len(search.letters))
             self.check_each(search, rows)
+
+    def test_a_message_in_hand_is_released(self):
+        streams = {"a": (2, SOON, 2, "home", "sort", "g"), "g": (1, SOON, 1, "home", "sort", None)}
+        pool = (5, at_least(3, 2), "read", None)
+        plan = Plan((5, SOON, "read"), {"home": pool}, {"sort": pool}, streams)
+        start = ((0, 0, 2, 0, 0), ((((1, True),), (1, True)), ((), ())))
+        behind = ((0, 0, 2, 0, 0), ((((1, False),), (1, False)), (((1, False),), ())))
+        rows = Standings(plan).rows()
+        self.assertEqual([row in rows for row in (start, behind)], [False, False])
+        # All that comes of these two else is as runs leave it.
+        self.assertIs(is_closed(plan, rows + [start, behind]), True)
+        self.assertIs(is_closed(plan, rows + [behind]), True)
+        self.assertIs(is_closed(plan, rows + [start]), False)
+
+    def test_each_kind_of_frame_and_reading(self):
+        # The start is none to which a run leads, so that only what comes of it leads to much of the list.
+        kinds = {"ended": lambda moment, word, waits, ends: word == "frame" and ends,
+                 "not ended": lambda moment, word, waits, ends: word == "frame" and not ends,
+                 "not ended where something waits":
+                     lambda moment, word, waits, ends: word == "frame" and not ends and "True" in repr(moment),
+                 "waiting": lambda moment, word, waits, ends: word == "frame" and waits,
+                 "not waiting": lambda moment, word, waits, ends: word == "frame" and not waits,
+                 "release": lambda moment, word, waits, ends: word == "release",
+                 "reading": lambda moment, word, waits, ends: word == "reading"}
+        seen = set()
+        for whole, own, rule, withheld in ((None, 1, at_least(3, 2), 2), (None, 2, at_least(2), 1),
+                                           (2, 2, at_least(2), 1), (2, 3, at_least(2), 1)):
+            size = min(own, 2)
+            streams = {"a": (own, SOON, whole, "home", "sort", "g"), "g": (size, SOON, whole, "home", "sort", None)}
+            pool = (5, rule, "read", None)
+            plan = Plan((5, SOON, "read"), {"home": pool}, {"sort": pool}, streams)
+            search = Search(plan)
+            lines = (((size, True),), ()) if whole is None else ((((size, True),), ()), ((), ()))
+            start = ((0, 0, withheld, 0, 0), lines)
+            full = list(set(search.letters) | search.closure([start]))
+            self.assertIs(is_closed(plan, full), True)
+            for kind, barred in kinds.items():
+                less = list(set(search.letters) | Search(plan, barred=barred).closure([start]))
+                if set(less) != set(full):
+                    seen.add((kind, whole))
+                    self.assertIs(is_closed(plan, less), False, kind)
+        self.assertEqual([(kind, whole) for kind in kinds for whole in (None, 2) if (kind, whole) not in seen], [])
 
     def allowed(self, pick, plan, row):
         """Return a standing like another one in which pools withhold what may be, or None."""

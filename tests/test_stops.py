@@ -105,15 +105,18 @@ class Stops(unittest.TestCase):
     def test_a_pool_under_which_all_are_slow_stops_none(self):
         streams = {"a": (5, SOON, None, "home", None, None), "b": (5, SOON, None, "home", None, None),
                    "c": (5, SOON, None, None, None, None)}
-        plan = Plan((20, SOON, "read"), {"home": (2, SOON, "read", None)}, {"void": (1, at_least(9), "read", None)}, streams)
-        self.assertEqual([can_fill(plan, "home", slow) for slow in (["a"], ["b"], ["a", "b"], [])], [True, True, False, False])
+        plan = Plan((20, SOON, "read"), {"home": (2, SOON, "read", None)}, {"void": (1, at_least(9), "read", None)},
+                    streams)
+        self.assertEqual([can_fill(plan, "home", slow) for slow in (["a"], ["b"], ["a", "b"], [])],
+                         [True, True, False, False])
         self.assertIs(can_fill(plan, "void", []), False)
         self.assertEqual([stopping(plan, slow) for slow in (["a"], ("b", "a"))], [["b"], []])
 
     def test_a_threshold_above_the_credit(self):
         streams = {"a": (5, SOON, None, "home", None, None), "b": (5, SOON, None, None, None, None)}
         plan = Plan((20, SOON, "read"), {"home": (2, at_least(3), "read", None)}, {}, streams)
-        self.assertEqual([stopping(plan, []), fewest_letters(plan, "a", []), fewest_letters(plan, "b", [])], [["a"], 2, None])
+        self.assertEqual([stopping(plan, []), fewest_letters(plan, "a", []), fewest_letters(plan, "b", [])],
+                         [["a"], 2, None])
         self.assertEqual(stopping(plan, ["a"]), [])
 
     def test_great_numbers(self):
@@ -142,7 +145,8 @@ class Errors(unittest.TestCase):
 
     def test_slow_sets_that_are_none(self):
         plan = mixed()
-        bad = [["f"], ["a", "a"], ["z"], ["home"], ["pipe"], list("abcdef"), ["a", None], "a", {"a"}, {"a": 1}, ["a", "f"]]
+        bad = [["f"], ["a", "a"], ["z"], ["home"], ["pipe"], list("abcdef"), ["a", None], "a", {"a"}, {"a": 1},
+               ["a", "f"]]
         for slow in bad + [thing for thing in things() if thing not in ([], ())]:
             raised(self, BadSlow, can_fill, plan, "pipe", slow)
             raised(self, BadSlow, stopping, plan, slow)
@@ -193,7 +197,8 @@ class Laws(unittest.TestCase):
             self.assertEqual([s for s in found if s not in stopping(richer, slow)], [])
             least = plan["pipe"][1].threshold if plan["pipe"][2] == "come" else 1
             for credit in range(least, plan["pipe"][0]):
-                self.assertEqual([s for s in found if s not in stopping(plan.with_pool("pipe", credit=credit), slow)], [])
+                self.assertEqual([s for s in found if s not in stopping(plan.with_pool("pipe", credit=credit), slow)],
+                                 [])
             stops += len(found)
         self.assertGreater(stops, 100)
 
